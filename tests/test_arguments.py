@@ -1,0 +1,155 @@
+"""[2]: which error is raised for which argument, and in which order; what is handed in and returned."""
+
+import unittest
+
+from tests.samples import (
+    D, F, LETTERS, NO_BUSHES, NO_NAMES, NO_ROADS, NO_ROWS, ODD_VALUES, S, W, chain, doubled, no_numbers, raised_by, wide,
+)
+from tipwoods import bushes, bushparts, bushturns, growing, roads, rowcounts
+from tipwoods.errors import InvalidBush, InvalidGrowths, InvalidNames, InvalidNumber, InvalidRoad, TooMany
+
+# A kind of argument: a value that is right, values that are wrong, and their error.
+BUSH = (F, NO_BUSHES + ODD_VALUES, InvalidBush)
+ROW = ((S, F), NO_ROWS + [(value,) for value in NO_BUSHES] + ODD_VALUES, InvalidGrowths)
+ROAD = ((1,), NO_ROADS + ODD_VALUES, InvalidRoad)
+NAMES = (LETTERS, [names for names in NO_NAMES if names != LETTERS[1:] + "a"] + ODD_VALUES, InvalidNames)
+
+
+def number(good, least, greatest):
+    return (good, no_numbers(least, greatest) + [value for value in ODD_VALUES if value is not None], InvalidNumber)
+
+
+FUNCTIONS = [
+    (bushes.knots_of, [BUSH]),
+    (bushes.tips_of, [BUSH]),
+    (bushes.near_depth, [BUSH]),
+    (bushes.height_of, [BUSH]),
+    (bushes.widths_of, [BUSH]),
+    (roads.part_at, [BUSH, ROAD]),
+    (roads.tip_roads, [BUSH]),
+    (roads.tip_road, [BUSH, number(1, 0, 1)]),
+    (roads.tip_number, [BUSH, ROAD]),
+    (roads.unlike_road, [BUSH, BUSH]),
+    (growing.grown, [BUSH, BUSH]),
+    (growing.grown_by, [BUSH, ROW]),
+    (growing.grown_on, [BUSH, ROW]),
+    (growing.bush_of, [ROW]),
+    (rowcounts.row_counts, [ROW]),
+    (rowcounts.can_be_drawn, [ROW]),
+    (bushparts.letter_counts, [BUSH]),
+    (bushparts.standing_roads, [BUSH, BUSH]),
+    (bushparts.count_standing, [BUSH, BUSH]),
+    (bushparts.count_unlike_parts, [BUSH]),
+    (bushparts.greatest_twin, [BUSH]),
+    (bushturns.mirrored_bush, [BUSH]),
+    (bushturns.mirrored_road, [BUSH, ROAD]),
+    (bushturns.is_own_mirror, [BUSH]),
+    (bushturns.renamed_bush, [BUSH, NAMES]),
+    (bushturns.plain_bush, [BUSH]),
+    (bushturns.names_between, [BUSH, BUSH]),
+]
+
+# Calls with arguments that are right but for what is told at last, and wrong ones in their places.
+LATE = [
+    (growing.grown, (wide(400), F), TooMany),
+    (growing.grown, (chain(60), S), TooMany),
+    (growing.grown_by, (wide(400), (F,) * 12), TooMany),
+    (growing.grown_by, (chain(60), (S,) * 12), TooMany),
+    (growing.grown_on, (wide(400), (F,) * 12), TooMany),
+    (growing.bush_of, ((F,) * 12,), TooMany),
+]
+
+# Calls that return lists.
+LISTS = [
+    (roads.tip_roads, (W,)),
+    (growing.grown_on, (F, (S, F))),
+    (growing.grown_on, (F, ())),
+    (bushparts.standing_roads, (W, S)),
+    (bushparts.standing_roads, (S, W)),
+]
+
+
+def with_wrong(goods, wrongs):
+    """The goods, with the values of the dict of wrong ones at their places."""
+    return [wrongs.get(at, good) for at, good in enumerate(goods)]
+
+
+class ArgumentsTest(unittest.TestCase):
+    def assert_raises_just(self, error, function, arguments):
+        found = raised_by(function, *arguments)
+        self.assertIs(type(found), error, (function.__name__, [type(argument) for argument in arguments]))
+
+    def test_right_arguments(self):
+        for function, kinds in FUNCTIONS:
+            self.assertIsNone(raised_by(function, *[kind[0] for kind in kinds]), function.__name__)
+
+    def test_each_wrong_value_of_each_argument(self):
+        for function, kinds in FUNCTIONS:
+            goods = [kind[0] for kind in kinds]
+            for at, (_, wrongs, error) in enumerate(kinds):
+                for wrong in wrongs:
+                    self.assert_raises_just(error, function, with_wrong(goods, {at: wrong}))
+
+    def test_the_first_of_several_wrong_arguments(self):
+        for function, kinds in FUNCTIONS:
+            goods = [kind[0] for kind in kinds]
+            for late in range(len(kinds)):
+                for early in range(late):
+                    for first in kinds[early][1][:12]:
+                        for second in kinds[late][1][:12]:
+                            arguments = with_wrong(goods, {early: first, late: second})
+                            self.assert_raises_just(kinds[early][2], function, arguments)
+
+    def test_all_arguments_wrong(self):
+        for function, kinds in FUNCTIONS:
+            for value in ([], None, "x", True, ("f",)):
+                self.assert_raises_just(kinds[0][2], function, [value] * len(kinds))
+
+    def test_late_errors_come_behind_all_others(self):
+        table = dict(FUNCTIONS)
+        for function, goods, error in LATE:
+            self.assert_raises_just(error, function, goods)
+            for at, (_, wrongs, wrong_error) in enumerate(table[function]):
+                for wrong in wrongs:
+                    self.assert_raises_just(wrong_error, function, with_wrong(goods, {at: wrong}))
+
+    def test_arguments_are_passed_by_position_and_all_of_them(self):
+        for function, kinds in FUNCTIONS:
+            goods = [kind[0] for kind in kinds]
+            self.assertRaises(TypeError, function, *goods[1:])
+            self.assertRaises(TypeError, function, *goods, goods[0])
+
+    def test_returned_lists_are_new(self):
+        for function, arguments in LISTS:
+            found = function(*arguments)
+            self.assertIs(type(found), list, function.__name__)
+            kept = list(found)
+            found.append("mine")
+            found.reverse()
+            self.assertEqual(function(*arguments), kept, function.__name__)
+
+    def test_results_are_plain_values(self):
+        def assert_plain(value):
+            self.assertIn(type(value), (tuple, list, str, int, bool, type(None)))
+            if isinstance(value, (tuple, list)):
+                for item in value:
+                    assert_plain(item)
+        for function, kinds in FUNCTIONS:
+            assert_plain(function(*[kind[0] for kind in kinds]))
+
+    def test_true_and_false_are_no_integers(self):
+        self.assert_raises_just(InvalidNumber, roads.tip_road, (F, True))
+        self.assert_raises_just(InvalidNumber, roads.tip_road, (F, False))
+        self.assert_raises_just(InvalidRoad, roads.part_at, (F, (True,)))
+        self.assert_raises_just(InvalidRoad, roads.tip_number, (F, (False,)))
+        self.assert_raises_just(InvalidRoad, bushturns.mirrored_road, (D, (0, True)))
+
+    def test_values_with_ever_so_many_parts_are_told_at_once(self):
+        great = doubled(100)
+        for function, kinds in FUNCTIONS:
+            goods = [kind[0] for kind in kinds]
+            for at, kind in enumerate(kinds):
+                if kind is BUSH:
+                    self.assert_raises_just(InvalidBush, function, with_wrong(goods, {at: great}))
+                if kind is ROW:
+                    self.assert_raises_just(InvalidGrowths, function, with_wrong(goods, {at: (S, great)}))

@@ -1,0 +1,75 @@
+"""[3]: the statements that hold for all bushes and growths, over many small ones."""
+
+import unittest
+
+from tests.samples import D, F, KINDS, LETTERS, S, W, bushes_with, plain_text, roads_of, small_bushes
+from tipwoods.bushes import height_of, near_depth
+from tipwoods.bushturns import is_own_mirror, mirrored_bush, names_between, plain_bush, renamed_bush
+from tipwoods.growing import bush_of, grown, grown_by
+from tipwoods.rowcounts import row_counts
+
+FEW = small_bushes(1) + [("a", ("b", ()), ()), ("b", ("a", (), ("b", ()))), F, S, D]
+MANY = small_bushes(2) + [F, S, W, D]
+MORE = small_bushes(3)
+
+
+class GrowingTest(unittest.TestCase):
+    def test_two_growths_are_one(self):
+        for bush in FEW:
+            for first in FEW:
+                for second in FEW:
+                    if sum(map(len, (bush, first, second))) < 10:
+                        behind = grown(grown(bush, first), second)
+                        self.assertEqual(behind, grown(bush, grown(first, second)))
+                        self.assertEqual(behind, grown_by(bush, (first, second)))
+                        self.assertEqual(behind, bush_of((bush, first, second)))
+
+    def test_near_depths_and_heights_are_added_up(self):
+        for bush in MANY:
+            for growth in MANY:
+                found = grown(bush, growth)
+                self.assertEqual(near_depth(found), near_depth(bush) + near_depth(growth))
+                self.assertEqual(height_of(found), height_of(bush) + height_of(growth))
+                self.assertEqual(row_counts((bush, growth))[2:], (near_depth(found), height_of(found)))
+
+    def test_growing_keeps_apart(self):
+        for growth in FEW:
+            self.assertEqual(len({grown(bush, growth) for bush in MORE}), len(MORE))
+        for bush in FEW:
+            self.assertEqual(len({grown(bush, growth) for growth in MORE}), len(MORE))
+
+    def test_mirrors_and_names_go_through_growing(self):
+        names = "bca" + LETTERS[3:]
+        for bush in MANY:
+            for growth in MANY:
+                found = grown(bush, growth)
+                self.assertEqual(mirrored_bush(found), grown(mirrored_bush(bush), mirrored_bush(growth)))
+                self.assertEqual(renamed_bush(found, names), grown(renamed_bush(bush, names), renamed_bush(growth, names)))
+
+    def test_own_mirrors_grow_own_mirrors_alone(self):
+        for bush in MANY:
+            for growth in MANY:
+                expected = is_own_mirror(bush) and is_own_mirror(growth)
+                self.assertEqual(is_own_mirror(bush_of((bush, growth))), expected)
+
+
+class OrderAndNamesTest(unittest.TestCase):
+    def test_bushes_stand_in_the_order_of_their_texts(self):
+        bushes = MORE + [F, S, W, D, ("a", (), (), ()), ("a", (), (), ("a", ()))]
+        self.assertEqual(sorted(bushes), sorted(bushes, key=plain_text))
+        self.assertEqual(len({plain_text(bush) for bush in bushes}), len(set(bushes)))
+
+    def test_plain_bushes_tell_who_is_one_but_for_the_names(self):
+        for bush in MANY:
+            for other in MANY:
+                self.assertEqual(names_between(bush, other) is not None, plain_bush(bush) == plain_bush(other))
+
+    def test_names_between_make_the_one_the_other(self):
+        for bush in bushes_with(3, KINDS):
+            other = plain_bush(bush)
+            self.assertEqual(plain_bush(other), other)
+            pairs = dict(names_between(bush, other))
+            self.assertEqual(sorted(pairs), sorted({part[0] for part in roads_of(bush).values() if part}))
+            rest = [letter for letter in LETTERS if letter not in pairs.values()]
+            names = "".join(pairs[letter] if letter in pairs else rest.pop() for letter in LETTERS)
+            self.assertEqual(renamed_bush(bush, names), other)

@@ -1,0 +1,198 @@
+"""The rules of LANGUAGE.md that a walk over the code can see, kept narrower where this is plainer to check."""
+
+import ast
+import builtins
+import pathlib
+import re
+import unittest
+
+ROOT = pathlib.Path(__file__).resolve().parent.parent
+PACKAGE = ROOT / "tipwoods"
+FILES = sorted(PACKAGE.glob("*.py"))
+TREES = {path.stem: ast.parse(path.read_text(encoding="utf-8")) for path in FILES}
+
+STATEMENTS = (
+    ast.Module, ast.FunctionDef, ast.ClassDef, ast.Import, ast.ImportFrom, ast.Assign, ast.AugAssign, ast.If, ast.While,
+    ast.For, ast.Return, ast.Break, ast.Continue, ast.Pass, ast.Raise, ast.Assert, ast.Delete, ast.Expr,
+)
+VALUES = (
+    ast.Constant, ast.Name, ast.Attribute, ast.Subscript, ast.Slice, ast.Call, ast.Starred, ast.List, ast.Tuple,
+    ast.Dict, ast.ListComp, ast.DictComp, ast.BinOp, ast.UnaryOp, ast.BoolOp, ast.Compare, ast.IfExp, ast.JoinedStr,
+    ast.FormattedValue,
+)
+BUILTINS = """len range enumerate zip min max sum abs sorted reversed int str bool list tuple dict isinstance ord repr any
+    all divmod super Exception ValueError KeyError IndexError""".split()
+METHODS = """append clear copy count endswith extend find get index insert isalnum isalpha isdigit islower isspace isupper
+    items join keys ljust lower lstrip partition pop remove replace reverse rfind rjust rpartition rsplit rstrip
+    setdefault split splitlines startswith strip update upper values zfill bit_length __init__""".split()
+WORDS = """type typing typing_extensions enum Enum IntEnum StrEnum Flag IntFlag Generic Protocol ABC ABCMeta namedtuple
+    NamedTuple TypedDict TYPE_CHECKING abstractmethod dataclass overload contextmanager _wall _WallAttr register mro
+    elements open input law version_info with_traceback add_note""".split()
+ERRORS = """BushError InvalidBush InvalidGrowths InvalidRoad InvalidNumber TooMany InvalidNames InvalidText InvalidStore
+    NoKnot InvalidLongRow InvalidRuns InvalidBunch InvalidCounts InvalidWords InvalidGrafts InvalidMixed InvalidMixedRow
+    InvalidStock InvalidHeard InvalidLog InvalidLetter InvalidDepth NothingToUndo NothingToRedo"""
+INTERFACE = {
+    "errors": ERRORS,
+    "bushes": "is_bush are_growths knots_of tips_of near_depth height_of widths_of",
+    "roads": "part_at tip_roads tip_road tip_number unlike_road",
+    "growing": "grown grown_by grown_on bush_of",
+    "rowcounts": "row_counts can_be_drawn",
+    "bushparts": "letter_counts standing_roads count_standing count_unlike_parts greatest_twin",
+    "bushturns": "mirrored_bush mirrored_road is_own_mirror renamed_bush plain_bush names_between",
+}
+
+
+def nodes(kinds, tree=None):
+    """The pairs of a file's name and a node of it of these kinds, of all files or of one tree."""
+    trees = TREES.items() if tree is None else [("", tree)]
+    return [(name, node) for name, top in trees for node in ast.walk(top) if isinstance(node, kinds)]
+
+
+def docstrings(tree):
+    holders = [node for _, node in nodes((ast.Module, ast.FunctionDef, ast.ClassDef), tree)]
+    return [node.body[0].value for node in holders if ast.get_docstring(node) is not None]
+
+
+def bound_names(tree):
+    """All names that a file binds: functions, classes, parameters, imports, and variables."""
+    found = [node.name for _, node in nodes((ast.FunctionDef, ast.ClassDef), tree)]
+    found += [node.arg for _, node in nodes(ast.arg, tree)]
+    found += [node.id for _, node in nodes(ast.Name, tree) if isinstance(node.ctx, ast.Store)]
+    return found + [alias.name for _, node in nodes(ast.ImportFrom, tree) for alias in node.names]
+
+
+class FilesTest(unittest.TestCase):
+    def test_the_folder_holds_python_files_alone(self):
+        names = [path.name for path in PACKAGE.iterdir() if path.name != "__pycache__"]
+        self.assertEqual(sorted(names), [path.name for path in FILES])
+        for name in names:
+            self.assertRegex(name, r"^[a-z0-9_]+\.py$")
+
+    def test_rows(self):
+        for path in FILES:
+            text = path.read_text(encoding="utf-8")
+            self.assertRegex(text, r"\A[ -~\n]*\Z", path.name)
+            rows = text.split("\n")
+            self.assertLess(len(rows), 400, path.name)
+            for row in rows:
+                self.assertLessEqual(len(row), 120, (path.name, row))
+
+    def test_functions_are_short(self):
+        for name, node in nodes(ast.FunctionDef):
+            self.assertLessEqual(node.end_lineno - node.lineno + 1, 40, (name, node.name))
+
+    def test_the_interface_is_defined_where_it_is_listed(self):
+        for name, listed in INTERFACE.items():
+            found = [node.name for node in TREES[name].body if isinstance(node, (ast.FunctionDef, ast.ClassDef))]
+            for word in listed.split():
+                self.assertIn(word, found, name)
+
+
+class ImportsTest(unittest.TestCase):
+    def test_imports_name_the_file_that_defines_the_name(self):
+        self.assertEqual(nodes(ast.Import), [])
+        for name, node in nodes(ast.ImportFrom):
+            self.assertEqual(node.level, 0)
+            self.assertTrue(all(alias.asname is None for alias in node.names))
+            if node.module == "math":
+                continue
+            self.assertRegex(node.module, r"^tipwoods\.[a-z]+$", name)
+            tree = TREES[node.module[len("tipwoods."):]]
+            own = [found for found in bound_names(tree) if found not in self.imported(tree)]
+            for alias in node.names:
+                self.assertIn(alias.name, own, name)
+                self.assertFalse(alias.name.startswith("_"), (name, alias.name))
+
+    def imported(self, tree):
+        return [alias.name for _, node in nodes(ast.ImportFrom, tree) for alias in node.names]
+
+    def test_no_circles(self):
+        left = {name: {node.module[9:] for _, node in nodes(ast.ImportFrom, tree) if node.module != "math"}
+                for name, tree in TREES.items()}
+        while left:
+            free = [name for name in left if not left[name] & set(left)]
+            self.assertTrue(free, left)
+            left = {name: needs for name, needs in left.items() if name not in free}
+
+    def test_imports_are_used_and_nothing_else_has_their_names(self):
+        for name, tree in TREES.items():
+            used = [node.id for _, node in nodes(ast.Name, tree)]
+            bound = bound_names(tree)
+            for word in self.imported(tree):
+                self.assertIn(word, used, name)
+                self.assertEqual(bound.count(word), 1, (name, word))
+
+
+class CodeTest(unittest.TestCase):
+    def test_statements_and_values(self):
+        for name, node in nodes((ast.stmt, ast.expr)):
+            self.assertIsInstance(node, STATEMENTS + VALUES, (name, node.lineno))
+        self.assertEqual(nodes((ast.Div, ast.MatMult)), [])
+        for name, node in nodes((ast.FunctionDef, ast.ClassDef)):
+            self.assertEqual(node.decorator_list, [], name)
+
+    def test_names(self):
+        for name, tree in TREES.items():
+            for word in bound_names(tree):
+                self.assertFalse(hasattr(builtins, word) and word != "__init__", (name, word))
+                self.assertRegex(word, r"^(_|_?[A-Za-z][A-Za-z0-9_]*|__init__)$", name)
+            read = [node.id for _, node in nodes(ast.Name, tree) if isinstance(node.ctx, ast.Load)]
+            self.assertNotIn("_", read, name)
+            for word in read:
+                if hasattr(builtins, word):
+                    self.assertIn(word, BUILTINS, name)
+
+    def test_module_level_names_are_bound_once(self):
+        for name, tree in TREES.items():
+            words = []
+            for node in tree.body:
+                self.assertIsInstance(node, (ast.Expr, ast.ImportFrom, ast.Assign, ast.FunctionDef, ast.ClassDef), name)
+                words += [node.name] if hasattr(node, "name") else []
+                words += [target.id for target in getattr(node, "targets", [])]
+                words += [alias.name for alias in getattr(node, "names", [])]
+            self.assertEqual(sorted(words), sorted(set(words)), name)
+
+    def test_methods(self):
+        for name, node in nodes(ast.Call):
+            if isinstance(node.func, ast.Attribute):
+                self.assertIn(node.func.attr, METHODS, (name, node.lineno))
+                self.assertEqual(node.keywords, [], (name, node.lineno))
+            else:
+                self.assertIsInstance(node.func, ast.Name, (name, node.lineno))
+
+    def test_constants(self):
+        for name, tree in TREES.items():
+            told = [id(node) for node in docstrings(tree)]
+            for _, node in nodes(ast.Constant, tree):
+                self.assertIn(type(node.value), (int, str, bool, type(None)), (name, node.lineno))
+                if isinstance(node.value, str):
+                    self.assertNotIn("%", node.value, (name, node.lineno))
+                    for word in re.findall(r"\w+", node.value if id(node) not in told else ""):
+                        self.assertNotIn(word, WORDS, (name, node.lineno))
+            for word in bound_names(tree) + [node.attr for _, node in nodes(ast.Attribute, tree)]:
+                self.assertNotIn(word, WORDS, name)
+            self.assertNotIn("\\", (PACKAGE / f"{name}.py").read_text(encoding="utf-8"), name)
+
+    def test_is_stands_with_none_true_and_false_alone(self):
+        for name, node in nodes(ast.Compare):
+            for sign, right in zip(node.ops, node.comparators):
+                if isinstance(sign, (ast.Is, ast.IsNot)):
+                    self.assertIn(getattr(right, "value", 0), (None, True, False), (name, node.lineno))
+
+    def test_errors_are_own_ones_made_on_the_spot(self):
+        for name, node in nodes(ast.Raise):
+            self.assertIsInstance(node.exc, ast.Call, (name, node.lineno))
+            self.assertIn(node.exc.func.id, ERRORS.split(), (name, node.lineno))
+
+    def test_exponents_are_small_literals(self):
+        for name, node in nodes(ast.BinOp):
+            if isinstance(node.op, ast.Pow):
+                self.assertIsInstance(node.right, ast.Constant, (name, node.lineno))
+                self.assertLessEqual(node.right.value, 64, (name, node.lineno))
+
+    def test_what_a_loop_goes_over_is_not_changed_in_it(self):
+        for name, node in nodes(ast.For):
+            for _, call in nodes(ast.Call, ast.Module(body=node.body, type_ignores=[])):
+                if isinstance(call.func, ast.Attribute) and isinstance(node.iter, ast.Name):
+                    if call.func.attr in ("append", "extend", "pop", "insert", "remove", "clear", "update", "reverse"):
+                        self.assertNotEqual(ast.dump(call.func.value), ast.dump(node.iter), (name, node.lineno))

@@ -1,0 +1,1 @@
+"""Tipwoods: bushes that grow at all of their tips."""
