@@ -3,16 +3,27 @@
 import unittest
 
 from tests.samples import (
-    D, F, LETTERS, NO_BUSHES, NO_NAMES, NO_ROADS, NO_ROWS, ODD_VALUES, S, W, chain, doubled, no_numbers, raised_by, wide,
+    D, F, LETTERS, NO_BUSHES, NO_LONG_ROWS, NO_NAMES, NO_ROADS, NO_ROWS, NO_STORES, ODD_VALUES, S, W, chain, doubled,
+    no_numbers, raised_by, wide,
 )
-from tipwoods import bushes, bushparts, bushturns, growing, roads, rowcounts
-from tipwoods.errors import InvalidBush, InvalidGrowths, InvalidNames, InvalidNumber, InvalidRoad, TooMany
+from tipwoods import (
+    bushes, bushnumbers, bushparts, bushtexts, bushturns, cuts, growing, lastyears, longrows, primecounts, primes,
+    roads, rowalikes, rowcounts,
+)
+from tipwoods.errors import (
+    InvalidBush, InvalidGrowths, InvalidLongRow, InvalidNames, InvalidNumber, InvalidRoad, InvalidStore, InvalidText,
+    NoKnot, TooMany,
+)
 
 # A kind of argument: a value that is right, values that are wrong, and their error.
 BUSH = (F, NO_BUSHES + ODD_VALUES, InvalidBush)
 ROW = ((S, F), NO_ROWS + [(value,) for value in NO_BUSHES] + ODD_VALUES, InvalidGrowths)
 ROAD = ((1,), NO_ROADS + ODD_VALUES, InvalidRoad)
 NAMES = (LETTERS, [names for names in NO_NAMES if names != LETTERS[1:] + "a"] + ODD_VALUES, InvalidNames)
+NO_TEXTS = [(), F, "f(..", "f(..))", "F(..)", "f(..) ", ". . f"]
+TEXT = ("f(..)", NO_TEXTS + [value for value in ODD_VALUES if value != "f(..)"], InvalidText)
+STORE = ((("f", 2), ("s", 1)), NO_STORES + ODD_VALUES, InvalidStore)
+LONG = (((F, 10 ** 30), (S, 1)), NO_LONG_ROWS + ODD_VALUES, InvalidLongRow)
 
 
 def number(good, least, greatest):
@@ -47,6 +58,41 @@ FUNCTIONS = [
     (bushturns.renamed_bush, [BUSH, NAMES]),
     (bushturns.plain_bush, [BUSH]),
     (bushturns.names_between, [BUSH, BUSH]),
+    (bushtexts.bush_text, [BUSH]),
+    (bushtexts.row_text, [ROW]),
+    (bushtexts.read_bush, [TEXT]),
+    (bushtexts.read_row, [TEXT]),
+    (bushnumbers.count_bushes, [number(3, 0, 20), number(2, 1, 26), number(2, 1, 6)]),
+    (bushnumbers.bush_at, [number(3, 0, 20), number(2, 1, 26), number(2, 1, 6), number(5, 0, 175)]),
+    (bushnumbers.bush_index, [BUSH, number(6, 1, 26), number(2, 1, 6)]),
+    (cuts.cut_below, [BUSH, BUSH]),
+    (cuts.cut_above, [BUSH, BUSH]),
+    (cuts.cuts_of, [BUSH]),
+    (primes.is_prime, [BUSH]),
+    (primes.primes_of, [BUSH]),
+    (primes.first_prime, [BUSH]),
+    (primes.last_prime, [BUSH]),
+    (rowalikes.row_primes, [ROW]),
+    (rowalikes.rows_alike, [ROW, ROW]),
+    (rowalikes.parting_prime, [ROW, ROW]),
+    (primecounts.bushes_counted, [STORE, number(3, 0, 16), number(2, 1, 100)]),
+    (primecounts.primes_counted, [STORE, number(3, 0, 16), number(2, 1, 100)]),
+    (primecounts.prime_list, [STORE, number(3, 0, 16)]),
+    (lastyears.last_times, [BUSH, BUSH]),
+    (lastyears.regrown, [BUSH, BUSH, BUSH]),
+    (longrows.long_alike, [LONG, LONG]),
+    (longrows.long_parting, [LONG, LONG]),
+    (longrows.long_primes, [LONG]),
+    (longrows.long_prime_at, [LONG, number(3, 0, 10 ** 30)]),
+]
+
+# Functions whose last argument may be any value.
+VALUE = (F, [], None)
+TESTS = [
+    (bushes.is_bush, [VALUE]),
+    (bushes.are_growths, [VALUE]),
+    (cuts.is_cut, [BUSH, VALUE]),
+    (longrows.is_long_row, [VALUE]),
 ]
 
 # Calls with arguments that are right but for what is told at last, and wrong ones in their places.
@@ -57,6 +103,11 @@ LATE = [
     (growing.grown_by, (chain(60), (S,) * 12), TooMany),
     (growing.grown_on, (wide(400), (F,) * 12), TooMany),
     (growing.bush_of, ((F,) * 12,), TooMany),
+    (primecounts.prime_list, ((("f", 2), ("s", 1)), 16), TooMany),
+    (lastyears.last_times, (F, ()), NoKnot),
+    (lastyears.last_times, ((), ()), NoKnot),
+    (lastyears.regrown, (W, S, wide(400)), TooMany),
+    (lastyears.regrown, (chain(60), S, chain(2)), TooMany),
 ]
 
 # Calls that return lists.
@@ -66,6 +117,10 @@ LISTS = [
     (growing.grown_on, (F, ())),
     (bushparts.standing_roads, (W, S)),
     (bushparts.standing_roads, (S, W)),
+    (cuts.cuts_of, (W,)),
+    (cuts.cuts_of, ((),)),
+    (primecounts.prime_list, ((("f", 2), ("s", 1)), 3)),
+    (primecounts.prime_list, ((("f", 2),), 0)),
 ]
 
 
@@ -113,6 +168,22 @@ class ArgumentsTest(unittest.TestCase):
                 for wrong in wrongs:
                     self.assert_raises_just(wrong_error, function, with_wrong(goods, {at: wrong}))
 
+    def test_any_value_can_be_told(self):
+        for function, kinds in TESTS:
+            goods = [kind[0] for kind in kinds[:-1]]
+            for value in ODD_VALUES + NO_BUSHES + NO_ROWS[2:] + NO_STORES + NO_NAMES + NO_ROADS:
+                if value not in ((), F, S, ((),), ((), ())):
+                    self.assertIs(function(*goods, value), False, function.__name__)
+        for wrong in BUSH[1]:
+            self.assert_raises_just(InvalidBush, cuts.is_cut, (wrong, wrong))
+
+    def test_what_is_wrong_behind_an_answer_that_would_be_none(self):
+        self.assert_raises_just(InvalidBush, lastyears.regrown, (F, S, ("f",)))
+        self.assert_raises_just(InvalidNumber, bushnumbers.bush_index, (chain(60), 1, 7))
+        self.assert_raises_just(InvalidNumber, bushnumbers.bush_index, (chain(60), 0, 7))
+        self.assert_raises_just(InvalidNumber, primecounts.bushes_counted, ((("f", 2),), 0, 101))
+        self.assert_raises_just(InvalidNumber, primecounts.primes_counted, ((("f", 2),), 17, 1))
+
     def test_arguments_are_passed_by_position_and_all_of_them(self):
         for function, kinds in FUNCTIONS:
             goods = [kind[0] for kind in kinds]
@@ -153,3 +224,5 @@ class ArgumentsTest(unittest.TestCase):
                     self.assert_raises_just(InvalidBush, function, with_wrong(goods, {at: great}))
                 if kind is ROW:
                     self.assert_raises_just(InvalidGrowths, function, with_wrong(goods, {at: (S, great)}))
+                if kind is LONG:
+                    self.assert_raises_just(InvalidLongRow, function, with_wrong(goods, {at: ((S, 1), (great, 1))}))

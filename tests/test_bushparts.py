@@ -60,7 +60,8 @@ class BushPartsTest(unittest.TestCase):
             unlike = sorted(set(parts))
             self.assertEqual(count_unlike_parts(bush), len(unlike))
             letters = [part[0] for part in parts if part]
-            self.assertEqual(letter_counts(bush), tuple((letter, letters.count(letter)) for letter in sorted(set(letters))))
+            counts = tuple((letter, letters.count(letter)) for letter in sorted(set(letters)))
+            self.assertEqual(letter_counts(bush), counts)
             for other in unlike + [F, ("z", ())]:
                 found = lesser_first(road for road in roads if roads[road] == other)
                 self.assertEqual(standing_roads(bush, other), found)

@@ -72,7 +72,8 @@ class NamesTest(unittest.TestCase):
             self.assertIs(type(raised_by(renamed_bush, (), LETTERS[:at] + "~" + LETTERS[at + 1:])), InvalidNames)
 
     def test_plain_letters_come_in_the_order_of_the_text(self):
-        self.assertEqual(plain_bush(("z", ("y", ("x", ())), ("x", ("w", ())))), ("a", ("b", ("c", ())), ("c", ("d", ()))))
+        bush = ("z", ("y", ("x", ())), ("x", ("w", ())))
+        self.assertEqual(plain_bush(bush), ("a", ("b", ("c", ())), ("c", ("d", ()))))
         self.assertEqual(plain_bush(()), ())
         self.assertEqual(plain_bush(chain(60, "q")), chain(60, "a"))
         row = chain(0)
@@ -90,7 +91,8 @@ class NamesTest(unittest.TestCase):
                          (("a", "c"), ("m", "a"), ("z", "b")))
 
     def test_no_names_between(self):
-        pairs = [((), S), (S, ()), (F, S), (F, ("f", (), S)), (("f", S), ("f", ("f", ()))), (("f", ("f", ())), ("f", S))]
+        twice = ("f", ("f", ()))
+        pairs = [((), S), (S, ()), (F, S), (F, ("f", (), S)), (("f", S), twice), (twice, ("f", S))]
         for bush, other in pairs:
             self.assertIsNone(names_between(bush, other))
 

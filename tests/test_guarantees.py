@@ -5,7 +5,12 @@ import unittest
 from tests.samples import D, F, KINDS, LETTERS, S, W, bushes_with, plain_text, roads_of, small_bushes
 from tipwoods.bushes import height_of, near_depth
 from tipwoods.bushturns import is_own_mirror, mirrored_bush, names_between, plain_bush, renamed_bush
+from tipwoods.bushtexts import bush_text
+from tipwoods.cuts import cut_above, cut_below, cuts_of
 from tipwoods.growing import bush_of, grown, grown_by
+from tipwoods.longrows import long_alike, long_prime_at, long_primes
+from tipwoods.primes import is_prime, primes_of
+from tipwoods.rowalikes import row_primes, rows_alike
 from tipwoods.rowcounts import row_counts
 
 FEW = small_bushes(1) + [("a", ("b", ()), ()), ("b", ("a", (), ("b", ()))), F, S, D]
@@ -44,7 +49,8 @@ class GrowingTest(unittest.TestCase):
             for growth in MANY:
                 found = grown(bush, growth)
                 self.assertEqual(mirrored_bush(found), grown(mirrored_bush(bush), mirrored_bush(growth)))
-                self.assertEqual(renamed_bush(found, names), grown(renamed_bush(bush, names), renamed_bush(growth, names)))
+                renamed = grown(renamed_bush(bush, names), renamed_bush(growth, names))
+                self.assertEqual(renamed_bush(found, names), renamed)
 
     def test_own_mirrors_grow_own_mirrors_alone(self):
         for bush in MANY:
@@ -57,7 +63,8 @@ class OrderAndNamesTest(unittest.TestCase):
     def test_bushes_stand_in_the_order_of_their_texts(self):
         bushes = MORE + [F, S, W, D, ("a", (), (), ()), ("a", (), (), ("a", ()))]
         self.assertEqual(sorted(bushes), sorted(bushes, key=plain_text))
-        self.assertEqual(len({plain_text(bush) for bush in bushes}), len(set(bushes)))
+        self.assertEqual(sorted(bushes), sorted(bushes, key=bush_text))
+        self.assertEqual(len({bush_text(bush) for bush in bushes}), len(set(bushes)))
 
     def test_plain_bushes_tell_who_is_one_but_for_the_names(self):
         for bush in MANY:
@@ -73,3 +80,44 @@ class OrderAndNamesTest(unittest.TestCase):
             rest = [letter for letter in LETTERS if letter not in pairs.values()]
             names = "".join(pairs[letter] if letter in pairs else rest.pop() for letter in LETTERS)
             self.assertEqual(renamed_bush(bush, names), other)
+
+
+class PrimesTest(unittest.TestCase):
+    def test_each_bush_has_one_tuple_of_primes_alone(self):
+        primes = [bush for bush in MANY if is_prime(bush)]
+        rows = [()] + [(prime,) for prime in primes] + [(first, second) for first in primes for second in primes]
+        found = {}
+        for row in rows:
+            bush = bush_of(row)
+            self.assertEqual(primes_of(bush), row)
+            self.assertEqual(found.setdefault(bush, row), row)
+
+    def test_rows_are_alike_if_and_only_if_their_primes_are_one_tuple(self):
+        rows = [(first, second) for first in FEW for second in FEW]
+        rows += [(bush,) for bush in MANY] + [(S, S, S), (("s", ("s", S)),)]
+        drawn = [bush_of(row) for row in rows]
+        primes = [row_primes(row) for row in rows]
+        for at, row in enumerate(rows):
+            for mate in range(at, len(rows), 3):
+                alike = drawn[at] == drawn[mate]
+                self.assertEqual(primes[at] == primes[mate], alike)
+                self.assertIs(rows_alike(row, rows[mate]), alike)
+
+    def test_of_two_cuts_one_upper_bush_cuts_the_other_above(self):
+        for bush in MORE + [grown(D, W), grown(W, grown(D, S)), grown(F, grown(F, W))]:
+            cuts = cuts_of(bush)
+            for upper, lower in cuts:
+                self.assertEqual(grown(upper, lower), bush)
+                self.assertEqual((cut_below(bush, lower), cut_above(bush, upper)), (upper, lower))
+                for other, _ in cuts:
+                    self.assertTrue(cut_above(upper, other) is not None or cut_above(other, upper) is not None)
+
+    def test_long_rows_are_alike_if_and_only_if_all_their_primes_are(self):
+        rows = [((first, 2), (second, 1)) for first in FEW[:9] for second in FEW[:9]]
+        rows += [((bush, 1),) for bush in FEW] + [((bush, 3),) for bush in FEW[:9]]
+        told = [[long_prime_at(row, index) for index in range(long_primes(row))] for row in rows]
+        drawn = [bush_of(tuple(growth for growth, years in row for _ in range(years))) for row in rows]
+        for at, row in enumerate(rows):
+            for mate, beside in enumerate(rows):
+                self.assertIs(long_alike(row, beside), told[at] == told[mate])
+                self.assertEqual(told[at] == told[mate], drawn[at] == drawn[mate])

@@ -20,10 +20,10 @@ VALUES = (
     ast.Dict, ast.ListComp, ast.DictComp, ast.BinOp, ast.UnaryOp, ast.BoolOp, ast.Compare, ast.IfExp, ast.JoinedStr,
     ast.FormattedValue,
 )
-BUILTINS = """len range enumerate zip min max sum abs sorted reversed int str bool list tuple dict isinstance ord repr any
-    all divmod super Exception ValueError KeyError IndexError""".split()
-METHODS = """append clear copy count endswith extend find get index insert isalnum isalpha isdigit islower isspace isupper
-    items join keys ljust lower lstrip partition pop remove replace reverse rfind rjust rpartition rsplit rstrip
+BUILTINS = """len range enumerate zip min max sum abs sorted reversed int str bool list tuple dict isinstance ord
+    repr any all divmod super Exception ValueError KeyError IndexError""".split()
+METHODS = """append clear copy count endswith extend find get index insert isalnum isalpha isdigit islower isspace
+    isupper items join keys ljust lower lstrip partition pop remove replace reverse rfind rjust rpartition rsplit rstrip
     setdefault split splitlines startswith strip update upper values zfill bit_length __init__""".split()
 WORDS = """type typing typing_extensions enum Enum IntEnum StrEnum Flag IntFlag Generic Protocol ABC ABCMeta namedtuple
     NamedTuple TypedDict TYPE_CHECKING abstractmethod dataclass overload contextmanager _wall _WallAttr register mro
@@ -39,6 +39,14 @@ INTERFACE = {
     "rowcounts": "row_counts can_be_drawn",
     "bushparts": "letter_counts standing_roads count_standing count_unlike_parts greatest_twin",
     "bushturns": "mirrored_bush mirrored_road is_own_mirror renamed_bush plain_bush names_between",
+    "bushtexts": "bush_text row_text read_bush read_row",
+    "bushnumbers": "count_bushes bush_at bush_index",
+    "cuts": "cut_below cut_above cuts_of is_cut",
+    "primes": "is_prime primes_of first_prime last_prime",
+    "rowalikes": "row_primes rows_alike parting_prime",
+    "primecounts": "bushes_counted primes_counted prime_list",
+    "lastyears": "last_times regrown",
+    "longrows": "is_long_row long_alike long_parting long_primes long_prime_at",
 }
 
 
