@@ -106,6 +106,16 @@ def plainly_grown_by(bush, growths):
     return bush
 
 
+def drawn(long):
+    """The bush of a long row, grown year by year."""
+    return plainly_grown_by((), [growth for growth, years in long for _ in range(years)])
+
+
+def letters(word):
+    """The bush that has, for each letter of a word, a prime: the knot with one branch."""
+    return plainly_grown_by((), [(letter, ()) for letter in word])
+
+
 def roads_of(bush):
     """The dict of all roads with their parts."""
     found = {(): bush}
@@ -124,7 +134,8 @@ def plain_text(bush):
 
 
 # Values of all kinds that [2] lets a caller hand in; none is a bush, a row of
-# growths, a road, names, a text, a store, a long row, or a number that is let.
+# growths, a road, names, a text, a store, a long row, runs, a bunch, or a number
+# that is let.
 ODD_VALUES = [
     None, True, False, -1, -10 ** 119, 10 ** 119, 10 ** 120 - 1,
     "", "f", "(", "f(..)", "-\n", "x" * 4000, "~" * 26, LETTERS[:25] + "A",
@@ -182,6 +193,12 @@ NO_LONG_ROWS = [
     ((F, True),), ((F, False),), ((F, "1"),), ((F, None),), ((1, F),), ((F, 1), (("f",), 1)), ((F, 1),) * 13,
     ((wide(401), 1),), ((chain(61), 0),), ((F, 1), None), ((F, 1), (S, 10 ** 119)), ((doubled(100), 1),), ("f1",),
     (((), 1),) * 13,
+]
+
+NO_BUNCHES = [
+    None, 0, "", "fs", (), [], [F], [F, S], F, D, ((),), (F, ()), ((), F), (F, F), (F, S, F), (S, ("s", ())),
+    (F, None), (F, ("f",)), (F, [S]), (F, (S,)), ((F,),), tuple(chain(knots) for knots in range(1, 8)), (wide(401),),
+    (chain(61), F), (F, doubled(100)), (doubled(100), doubled(100)), (F, True), (errors.NoKnot(),), (F, 10 ** 119),
 ]
 
 

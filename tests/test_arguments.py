@@ -3,17 +3,19 @@
 import unittest
 
 from tests.samples import (
-    D, F, LETTERS, NO_BUSHES, NO_LONG_ROWS, NO_NAMES, NO_ROADS, NO_ROWS, NO_STORES, ODD_VALUES, S, W, chain, doubled,
-    no_numbers, raised_by, wide,
+    D, F, LETTERS, NO_BUNCHES, NO_BUSHES, NO_LONG_ROWS, NO_NAMES, NO_ROADS, NO_ROWS, NO_STORES, ODD_VALUES, S, W, chain,
+    doubled, no_numbers, plainly_grown, raised_by, wide,
 )
 from tipwoods import (
-    bushes, bushnumbers, bushparts, bushtexts, bushturns, cuts, growing, lastyears, longrows, primecounts, primes,
-    roads, rowalikes, rowcounts,
+    bunches, bunchways, bushes, bushnumbers, bushparts, bushtexts, bushturns, cuts, growing, lastyears, longcounts,
+    longroads, longrows, longtips, powers, primecounts, primes, roads, rounds, rowalikes, rowcounts, sharedyears,
 )
 from tipwoods.errors import (
-    InvalidBush, InvalidGrowths, InvalidLongRow, InvalidNames, InvalidNumber, InvalidRoad, InvalidStore, InvalidText,
-    NoKnot, TooMany,
+    InvalidBunch, InvalidBush, InvalidGrowths, InvalidLongRow, InvalidNames, InvalidNumber, InvalidRoad, InvalidRuns,
+    InvalidStore, InvalidText, NoKnot, TooMany,
 )
+
+N = 10 ** 30
 
 # A kind of argument: a value that is right, values that are wrong, and their error.
 BUSH = (F, NO_BUSHES + ODD_VALUES, InvalidBush)
@@ -24,6 +26,11 @@ NO_TEXTS = [(), F, "f(..", "f(..))", "F(..)", "f(..) ", ". . f"]
 TEXT = ("f(..)", NO_TEXTS + [value for value in ODD_VALUES if value != "f(..)"], InvalidText)
 STORE = ((("f", 2), ("s", 1)), NO_STORES + ODD_VALUES, InvalidStore)
 LONG = (((F, 10 ** 30), (S, 1)), NO_LONG_ROWS + ODD_VALUES, InvalidLongRow)
+YEAR = (((F, 1), ((), N)), NO_LONG_ROWS + ODD_VALUES, InvalidLongRow)
+NO_RUNS = [(), [((1,), 1)], ((1,), 1), (((1,), 2),), (((1,), 0),), (((1,), True),), (((True,), 1),), (((2,), 1),),
+           (((), 1),), (((1,), 1), ((), 1)), (((1,), 1), ((1,), 1)), ([(1,), 1],), (((1,), 1, 1),), (((1,), None),)]
+RUNS = ((((1,), 1),), NO_RUNS + ODD_VALUES, InvalidRuns)
+BUNCH = ((F, S), NO_BUNCHES + ODD_VALUES, InvalidBunch)
 
 
 def number(good, least, greatest):
@@ -84,6 +91,32 @@ FUNCTIONS = [
     (longrows.long_parting, [LONG, LONG]),
     (longrows.long_primes, [LONG]),
     (longrows.long_prime_at, [LONG, number(3, 0, 10 ** 30)]),
+    (longcounts.long_depths, [LONG]),
+    (longcounts.tips_modulo, [LONG, number(7, 1, 10 ** 9)]),
+    (longcounts.knots_modulo, [LONG, number(7, 1, 10 ** 9)]),
+    (longcounts.tips_whole, [YEAR]),
+    (longcounts.unlike_parts, [LONG]),
+    (longtips.runs_of_tip, [YEAR, number(1, 0, 1)]),
+    (longtips.tip_of_runs, [YEAR, RUNS]),
+    (longtips.near_runs, [LONG]),
+    (longtips.far_runs, [LONG]),
+    (longroads.spot_at, [YEAR, ROAD]),
+    (longroads.unlike_way, [LONG, LONG]),
+    (powers.do_exchange, [BUSH, BUSH]),
+    (powers.root_of, [BUSH]),
+    (powers.power_of, [BUSH, number(3, 0, 60)]),
+    (powers.common_root, [BUSH, BUSH]),
+    (rounds.round_bushes, [BUSH]),
+    (rounds.round_index, [BUSH, BUSH]),
+    (rounds.led_over, [BUSH, BUSH, number(3, 0, 60)]),
+    (sharedyears.shared_first, [BUSH, BUSH]),
+    (sharedyears.shared_last, [BUSH, BUSH]),
+    (sharedyears.put_between, [BUSH, BUSH, BUSH]),
+    (bunches.left_overs, [BUNCH]),
+    (bunches.two_ways, [BUNCH]),
+    (bunches.base_of, [BUNCH]),
+    (bunchways.count_ways, [BUNCH, BUSH]),
+    (bunchways.least_way, [BUNCH, BUSH]),
 ]
 
 # Functions whose last argument may be any value.
@@ -93,6 +126,7 @@ TESTS = [
     (bushes.are_growths, [VALUE]),
     (cuts.is_cut, [BUSH, VALUE]),
     (longrows.is_long_row, [VALUE]),
+    (bunches.is_bunch, [VALUE]),
 ]
 
 # Calls with arguments that are right but for what is told at last, and wrong ones in their places.
@@ -108,6 +142,15 @@ LATE = [
     (lastyears.last_times, ((), ()), NoKnot),
     (lastyears.regrown, (W, S, wide(400)), TooMany),
     (lastyears.regrown, (chain(60), S, chain(2)), TooMany),
+    (longcounts.tips_whole, (((F, N), (S, N)),), TooMany),
+    (longtips.tip_of_runs, (((F, N), (S, N)), (((1,), N), ((0,), N))), TooMany),
+    (longroads.unlike_way, (((F, N),), ((F, N - 1), (S, 1))), TooMany),
+    (powers.power_of, (F, 60), TooMany),
+    (powers.power_of, (chain(2), 31), TooMany),
+    (rounds.round_bushes, (plainly_grown(chain(30), doubled(7)),), TooMany),
+    (rounds.led_over, (F, (), 3), NoKnot),
+    (rounds.led_over, ((), F, 3), NoKnot),
+    (rounds.led_over, ((), (), 3), NoKnot),
 ]
 
 # Calls that return lists.
@@ -121,6 +164,12 @@ LISTS = [
     (cuts.cuts_of, ((),)),
     (primecounts.prime_list, ((("f", 2), ("s", 1)), 3)),
     (primecounts.prime_list, ((("f", 2),), 0)),
+    (rounds.round_bushes, (W,)),
+    (rounds.round_bushes, ((),)),
+    (rounds.led_over, (F, F, 3)),
+    (rounds.led_over, (F, S, 3)),
+    (bunches.left_overs, ((F, ("f", F, F)),)),
+    (bunches.left_overs, ((F, S),)),
 ]
 
 
@@ -183,6 +232,9 @@ class ArgumentsTest(unittest.TestCase):
         self.assert_raises_just(InvalidNumber, bushnumbers.bush_index, (chain(60), 0, 7))
         self.assert_raises_just(InvalidNumber, primecounts.bushes_counted, ((("f", 2),), 0, 101))
         self.assert_raises_just(InvalidNumber, primecounts.primes_counted, ((("f", 2),), 17, 1))
+        self.assert_raises_just(InvalidBush, sharedyears.put_between, (F, S, ("f",)))
+        self.assert_raises_just(InvalidLongRow, longroads.unlike_way, ((), ((F, -1),)))
+        self.assert_raises_just(InvalidNumber, rounds.led_over, (F, S, 61))
 
     def test_arguments_are_passed_by_position_and_all_of_them(self):
         for function, kinds in FUNCTIONS:
@@ -224,5 +276,7 @@ class ArgumentsTest(unittest.TestCase):
                     self.assert_raises_just(InvalidBush, function, with_wrong(goods, {at: great}))
                 if kind is ROW:
                     self.assert_raises_just(InvalidGrowths, function, with_wrong(goods, {at: (S, great)}))
-                if kind is LONG:
+                if kind is BUNCH:
+                    self.assert_raises_just(InvalidBunch, function, with_wrong(goods, {at: (S, great)}))
+                if kind in (LONG, YEAR):
                     self.assert_raises_just(InvalidLongRow, function, with_wrong(goods, {at: ((S, 1), (great, 1))}))

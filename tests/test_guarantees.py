@@ -3,13 +3,18 @@
 import unittest
 
 from tests.samples import D, F, KINDS, LETTERS, S, W, bushes_with, plain_text, roads_of, small_bushes
+from tipwoods.bunches import left_overs, two_ways
 from tipwoods.bushes import height_of, near_depth
+from tipwoods.bushparts import count_unlike_parts
 from tipwoods.bushturns import is_own_mirror, mirrored_bush, names_between, plain_bush, renamed_bush
 from tipwoods.bushtexts import bush_text
 from tipwoods.cuts import cut_above, cut_below, cuts_of
 from tipwoods.growing import bush_of, grown, grown_by
+from tipwoods.longcounts import unlike_parts
 from tipwoods.longrows import long_alike, long_prime_at, long_primes
+from tipwoods.powers import common_root, do_exchange, power_of
 from tipwoods.primes import is_prime, primes_of
+from tipwoods.rounds import led_over, round_bushes
 from tipwoods.rowalikes import row_primes, rows_alike
 from tipwoods.rowcounts import row_counts
 
@@ -121,3 +126,41 @@ class PrimesTest(unittest.TestCase):
             for mate, beside in enumerate(rows):
                 self.assertIs(long_alike(row, beside), told[at] == told[mate])
                 self.assertEqual(told[at] == told[mate], drawn[at] == drawn[mate])
+
+
+class PowersTest(unittest.TestCase):
+    def test_bushes_exchange_if_and_only_if_both_are_powers_of_one(self):
+        powers = {bush: [power_of(bush, times) for times in range(4)] for bush in small_bushes(1) + [F, S]}
+        bushes = FEW + [bush for row in powers.values() for bush in row]
+        for bush in bushes:
+            for other in bushes:
+                self.assertIs(do_exchange(bush, other), grown(bush, other) == grown(other, bush))
+                self.assertIs(do_exchange(bush, other), common_root(bush, other) is not None)
+        for row in powers.values():
+            for bush in row:
+                for other in row:
+                    self.assertIs(do_exchange(bush, other), True)
+
+    def test_led_over_if_and_only_if_round(self):
+        bushes = [bush for bush in MANY if bush][::2] + [grown(F, S), grown(S, F), grown(W, S), grown(S, W)]
+        for bush in bushes:
+            rounds = round_bushes(bush)
+            for other in bushes:
+                self.assertEqual(led_over(bush, other, 3) != [], other in rounds)
+
+    def test_bunches_of_two_are_tangled_if_and_only_if_they_exchange(self):
+        bushes = [bush for bush in MANY if bush] + [power_of(F, 2), power_of(F, 3), power_of(S, 2), grown(W, W)]
+        for at, bush in enumerate(bushes):
+            for other in bushes[:at]:
+                if bush != other:
+                    tangled = two_ways((bush, other)) is not None
+                    self.assertIs(tangled, do_exchange(bush, other))
+                    self.assertIs(tangled, () in left_overs((bush, other)))
+
+    def test_no_part_comes_by_two_years(self):
+        for first in FEW:
+            for second in FEW:
+                row = ((first, 1), (second, 2))
+                added = [count_unlike_parts(growth) - 1 for growth in (first, second, second)]
+                self.assertEqual(unlike_parts(row), 1 + sum(added))
+                self.assertEqual(unlike_parts(row), count_unlike_parts(bush_of((first, second, second))))

@@ -47,6 +47,14 @@ INTERFACE = {
     "primecounts": "bushes_counted primes_counted prime_list",
     "lastyears": "last_times regrown",
     "longrows": "is_long_row long_alike long_parting long_primes long_prime_at",
+    "longcounts": "long_depths tips_modulo knots_modulo tips_whole unlike_parts",
+    "longtips": "runs_of_tip tip_of_runs near_runs far_runs",
+    "longroads": "spot_at unlike_way",
+    "powers": "do_exchange root_of power_of common_root",
+    "rounds": "round_bushes round_index led_over",
+    "sharedyears": "shared_first shared_last put_between",
+    "bunches": "is_bunch left_overs two_ways base_of",
+    "bunchways": "count_ways least_way",
 }
 
 

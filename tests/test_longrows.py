@@ -4,7 +4,7 @@ import itertools
 import unittest
 
 from tests.samples import (
-    D, F, NO_LONG_ROWS, ODD_VALUES, S, W, chain, doubled, no_numbers, plainly_grown_by, raised_by, wide,
+    D, F, NO_LONG_ROWS, ODD_VALUES, S, W, chain, doubled, drawn, letters, no_numbers, raised_by, wide,
 )
 from tipwoods.errors import InvalidNumber
 from tipwoods.longrows import is_long_row, long_alike, long_parting, long_prime_at, long_primes
@@ -12,11 +12,6 @@ from tipwoods.primes import primes_of
 
 N = 10 ** 30
 FF = ("f", F, F)
-
-
-def letters(word):
-    """The bush that has, for each letter of a word, a prime: the knot with one branch."""
-    return plainly_grown_by((), [(letter, ()) for letter in word])
 
 
 def spread(long):
@@ -166,9 +161,7 @@ class PartingTest(unittest.TestCase):
         rows = [((F, 2), (S, 1)), ((W, 1),), ((F, 1), (W, 1)), ((FF, 1), (S, 1)), ((F, 1), (S, 1)), ((S, 1),), ()]
         for long in rows:
             for beside in rows:
-                first = plainly_grown_by((), [growth for growth, years in long for _ in range(years)])
-                second = plainly_grown_by((), [growth for growth, years in beside for _ in range(years)])
-                self.assertIs(long_alike(long, beside), first == second)
+                self.assertIs(long_alike(long, beside), drawn(long) == drawn(beside))
 
 
 def far_words(first, second):

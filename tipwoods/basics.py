@@ -10,6 +10,7 @@ MOST_BRANCHES = 6
 MOST_PARTS = 400
 MOST_DEPTH = 60
 MOST_GROWTHS = 12
+MOST_DIGITS = 4000
 
 
 def is_letter(value):
@@ -99,3 +100,34 @@ def grow(bush, growth):
         return growth
     branches = [grow(branch, growth) for branch in bush[1:]]
     return (bush[0], *branches)
+
+
+def grow_row(growths):
+    """Return what comes of the tip if it is grown by a row, however many parts that has."""
+    bush = ()
+    for growth in growths:
+        bush = grow(bush, growth)
+    return bush
+
+
+def number_part(part, numbers):
+    """Return the number that a dict has for a part, equal parts having the same one.
+
+    A part that the dict does not have yet gets the next number, behind those of
+    its branches. Its key is the letter and the numbers of the branches, so that
+    keys are flat, however deep a part is nested; the keys in their order tell
+    what stands behind each number.
+    """
+    key = ()
+    if part:
+        key = (part[0], *[number_part(branch, numbers) for branch in part[1:]])
+    return numbers.setdefault(key, len(numbers))
+
+
+def least_too_long():
+    """Return the least integer that has more than 4000 digits."""
+    number = 1
+    # By fifty digits at once, as this is asked for often.
+    for _ in range(MOST_DIGITS // 50):
+        number *= 10 ** 50
+    return number

@@ -28,6 +28,11 @@ def check_long(value):
         raise InvalidLongRow("no long row")
 
 
+def pairs_with_years(long):
+    """Return the list of the pairs that have years: some times of a growth that is not the tip."""
+    return [(growth, years) for growth, years in long if growth and years > 0]
+
+
 def _stretches(long):
     """Return the list of triples (begin, end, primes), for each pair, of the indices between which its primes stand."""
     found = []
