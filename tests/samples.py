@@ -89,6 +89,7 @@ def bushes_with(knots, kinds):
 
 
 KINDS = (("a", 1), ("a", 2), ("b", 1), ("b", 2))
+WIDE_KINDS = (("a", 1), ("a", 3), ("b", 2))
 
 
 def small_bushes(knots, kinds=KINDS):
@@ -127,6 +128,32 @@ def roads_of(bush):
 
 def lesser_first(roads):
     return sorted(roads, key=lambda road: (len(road), road))
+
+
+def turned_once(bush):
+    """The list of all bushes that come of one by exchanging two neighbouring branches of one of its knots."""
+    found = []
+    for at in range(1, len(bush)):
+        if at + 1 < len(bush):
+            found.append((*bush[:at], bush[at + 1], bush[at], *bush[at + 2:]))
+        found.extend((*bush[:at], branch, *bush[at + 1:]) for branch in turned_once(bush[at]))
+    return found
+
+
+@lru_cache(maxsize=None)
+def copies_with_turns(bush):
+    """The dict of all turned copies of a bush, with the fewest turns to each, told by turning again and again."""
+    found = {bush: 0}
+    level = [bush]
+    while level:
+        below = []
+        for copy in level:
+            for other in turned_once(copy):
+                if other not in found:
+                    found[other] = found[copy] + 1
+                    below.append(other)
+        level = below
+    return found
 
 
 def plain_text(bush):

@@ -7,8 +7,9 @@ from tests.samples import (
     doubled, no_numbers, plainly_grown, raised_by, wide,
 )
 from tipwoods import (
-    bunches, bunchways, bushes, bushnumbers, bushparts, bushtexts, bushturns, cuts, growing, lastyears, longcounts,
-    longroads, longrows, longtips, powers, primecounts, primes, roads, rounds, rowalikes, rowcounts, sharedyears,
+    bunches, bunchways, bushes, bushnumbers, bushparts, bushtexts, bushturns, cuts, formcuts, forms, growing, lastyears,
+    longcounts, longroads, longrows, longtips, powers, primecounts, primes, roads, roadsapart, roadwords, rounds,
+    rowalikes, rowcounts, sharedyears, tipclasses, turnedcopies, turnings,
 )
 from tipwoods.errors import (
     InvalidBunch, InvalidBush, InvalidGrowths, InvalidLongRow, InvalidNames, InvalidNumber, InvalidRoad, InvalidRuns,
@@ -117,6 +118,27 @@ FUNCTIONS = [
     (bunches.base_of, [BUNCH]),
     (bunchways.count_ways, [BUNCH, BUSH]),
     (bunchways.least_way, [BUNCH, BUSH]),
+    (forms.form_of, [BUSH]),
+    (forms.alike_without_order, [BUSH, BUSH]),
+    (forms.unlike_form, [BUSH, BUSH]),
+    (formcuts.cut_sizes, [BUSH]),
+    (formcuts.form_cut, [BUSH, number(2, 1, 400)]),
+    (formcuts.form_primes, [ROW]),
+    (formcuts.alike_rows, [ROW, ROW]),
+    (turnedcopies.count_copies, [BUSH]),
+    (turnedcopies.all_copies, [BUSH]),
+    (turnedcopies.copy_number, [BUSH]),
+    (turnedcopies.row_copies, [ROW, number(7, 2, 10 ** 9)]),
+    (tipclasses.tip_classes, [BUSH]),
+    (tipclasses.class_sizes, [ROW]),
+    (turnings.own_mirror_row, [ROW]),
+    (turnings.fewest_turns, [BUSH, BUSH]),
+    (roadwords.words_of, [ROW]),
+    (roadwords.road_letters_of, [ROW]),
+    (roadwords.depths_of, [ROW]),
+    (roadsapart.word_apart, [ROW, ROW]),
+    (roadsapart.letters_apart, [ROW, ROW]),
+    (roadsapart.depth_apart, [ROW, ROW]),
 ]
 
 # Functions whose last argument may be any value.
@@ -128,6 +150,9 @@ TESTS = [
     (longrows.is_long_row, [VALUE]),
     (bunches.is_bunch, [VALUE]),
 ]
+
+# A growth with many words, and letters, and many classes of tips of unlike sizes.
+MANY = ("a", *[(letter, *[()] * (at + 1)) for at, letter in enumerate("bcdefg")])
 
 # Calls with arguments that are right but for what is told at last, and wrong ones in their places.
 LATE = [
@@ -151,6 +176,14 @@ LATE = [
     (rounds.led_over, (F, (), 3), NoKnot),
     (rounds.led_over, ((), F, 3), NoKnot),
     (rounds.led_over, ((), (), 3), NoKnot),
+    (turnedcopies.all_copies, (("x", *[(letter, ()) for letter in "abcdef"]),), TooMany),
+    (tipclasses.class_sizes, ((MANY,) * 12,), TooMany),
+    (roadwords.words_of, ((MANY,) * 12,), TooMany),
+    (roadwords.road_letters_of, ((MANY,) * 12,), TooMany),
+    (roadsapart.word_apart, ((MANY,) * 12, ()), TooMany),
+    (roadsapart.word_apart, ((), (MANY,) * 12), TooMany),
+    (roadsapart.letters_apart, ((MANY,) * 12, ()), TooMany),
+    (roadsapart.letters_apart, ((), (MANY,) * 12), TooMany),
 ]
 
 # Calls that return lists.
@@ -170,6 +203,9 @@ LISTS = [
     (rounds.led_over, (F, S, 3)),
     (bunches.left_overs, ((F, ("f", F, F)),)),
     (bunches.left_overs, ((F, S),)),
+    (turnedcopies.all_copies, (D,)),
+    (turnedcopies.all_copies, ((),)),
+    (tipclasses.tip_classes, (D,)),
 ]
 
 
@@ -235,6 +271,11 @@ class ArgumentsTest(unittest.TestCase):
         self.assert_raises_just(InvalidBush, sharedyears.put_between, (F, S, ("f",)))
         self.assert_raises_just(InvalidLongRow, longroads.unlike_way, ((), ((F, -1),)))
         self.assert_raises_just(InvalidNumber, rounds.led_over, (F, S, 61))
+        self.assert_raises_just(InvalidNumber, formcuts.form_cut, ((), 401))
+        self.assert_raises_just(InvalidGrowths, formcuts.alike_rows, ((F,), (F, None)))
+        self.assert_raises_just(InvalidBush, forms.unlike_form, (F, ("f",)))
+        self.assert_raises_just(InvalidBush, turnings.fewest_turns, ((), ("f",)))
+        self.assert_raises_just(InvalidNumber, turnedcopies.row_copies, ((), 1))
 
     def test_arguments_are_passed_by_position_and_all_of_them(self):
         for function, kinds in FUNCTIONS:

@@ -1,10 +1,14 @@
-"""[2], [54] to [61]: the greatest inputs, each of which must be told within a few seconds."""
+"""[2], [54] to [68]: the greatest inputs, each of which must be told within a few seconds."""
 
+import random
 import time
 import unittest
 
 from tests.samples import F, S, chain, doubled, letters, raised_by, wide
-from tipwoods import bunches, bunchways, longcounts, longroads, longtips, powers, rounds, sharedyears
+from tipwoods import (
+    bunches, bunchways, formcuts, forms, longcounts, longroads, longtips, powers, roadsapart, roadwords, rounds,
+    sharedyears, tipclasses, turnedcopies, turnings,
+)
 
 N = 10 ** 30
 MOST_SECONDS = 3
@@ -19,6 +23,38 @@ BIG_BUNCHES = [
     tuple(letters(("abaababaabaab" * 5)[:size]) for size in (60, 59, 55, 34, 21, 13)),
     tuple(letters(("ab" * 30)[at:size]) for at, size in ((0, 60), (0, 59), (1, 60), (1, 58), (0, 57), (1, 55))),
 ]
+
+
+def evenly(chance, parts, letters, most):
+    """A bush with so many parts, all branches of a knot having about as many, with letters by chance."""
+    if parts == 1:
+        return ()
+    many = min(parts - 1, most)
+    sizes = [(parts - 1) // many + (at < (parts - 1) % many) for at in range(many)]
+    chance.shuffle(sizes)
+    return (chance.choice(letters), *[evenly(chance, size, letters, most) for size in sizes])
+
+
+def shuffled(chance, bush):
+    branches = [shuffled(chance, branch) for branch in bush[1:]]
+    chance.shuffle(branches)
+    return (*bush[:1], *branches)
+
+
+def comb(letters, height):
+    bush = ()
+    for at in range(height):
+        bush = (letters[at % len(letters)], bush, ())
+    return bush
+
+
+CHANCE = random.Random(11)
+MANY_COPIES = [evenly(CHANCE, 400, signs, most) for signs in ("a", "ab", "abcdefghijklmnopqrstuvwxyz")
+               for most in (2, 3, 4, 5, 6)]
+# All knots at one depth are of one form, but with their branches in unlike orders.
+KNOT = ("k", ("a", ("a", ()), ()), ("a", ("a", ()), ()), ("a", ("a", ()), ()), ("a", (), ()))
+MANY_COPIES += [shuffled(CHANCE, ("r", *[("s", *[KNOT] * many)] * most)) for many, most in ((6, 3), (4, 5), (3, 6))]
+MANY_COPIES += BIG_BUSHES + [comb("a", 60), comb("ab", 60), comb("abc", 60)]
 
 
 class GreatestTest(unittest.TestCase):
@@ -73,3 +109,26 @@ class GreatestTest(unittest.TestCase):
             for bush in (*bunch, chain(60), doubled(7)):
                 self.assert_soon(bunchways.count_ways, bunch, bush)
                 self.assert_soon(bunchways.least_way, bunch, bush)
+
+    def test_bushes_without_order(self):
+        for bush in MANY_COPIES:
+            other = shuffled(CHANCE, bush)
+            for function in (forms.form_of, formcuts.cut_sizes, turnedcopies.count_copies, turnedcopies.all_copies,
+                             turnedcopies.copy_number, tipclasses.tip_classes):
+                self.assert_soon(function, bush)
+                self.assert_soon(function, other)
+            self.assert_soon(formcuts.form_cut, bush, 11)
+            for function in (forms.alike_without_order, forms.unlike_form, turnings.fewest_turns):
+                self.assert_soon(function, bush, other)
+
+    def test_rows_of_twelve_growths(self):
+        for bush in MANY_COPIES:
+            row = (bush,) * 12
+            other = (shuffled(CHANCE, bush),) * 12
+            for function in (formcuts.form_primes, tipclasses.class_sizes, turnings.own_mirror_row, roadwords.words_of,
+                             roadwords.road_letters_of, roadwords.depths_of):
+                self.assert_soon(function, row)
+            self.assert_soon(turnedcopies.row_copies, row, 10 ** 9)
+            for function in (formcuts.alike_rows, roadsapart.word_apart, roadsapart.letters_apart,
+                             roadsapart.depth_apart):
+                self.assert_soon(function, row, other)

@@ -55,6 +55,13 @@ INTERFACE = {
     "sharedyears": "shared_first shared_last put_between",
     "bunches": "is_bunch left_overs two_ways base_of",
     "bunchways": "count_ways least_way",
+    "forms": "form_of alike_without_order unlike_form",
+    "formcuts": "cut_sizes form_cut form_primes alike_rows",
+    "turnedcopies": "count_copies all_copies copy_number row_copies",
+    "tipclasses": "tip_classes class_sizes",
+    "turnings": "own_mirror_row fewest_turns",
+    "roadwords": "words_of road_letters_of depths_of",
+    "roadsapart": "word_apart letters_apart depth_apart",
 }
 
 
@@ -158,6 +165,18 @@ class CodeTest(unittest.TestCase):
                 if hasattr(builtins, word):
                     self.assertIn(word, BUILTINS, name)
 
+    def test_own_methods_and_attributes(self):
+        plain = [word for value in ("", 0, [], {}, (), b"", set()) for word in dir(value)]
+        stored = [node.attr for _, node in nodes(ast.Attribute) if isinstance(node.ctx, ast.Store)]
+        for name, holder in nodes(ast.ClassDef):
+            for node in holder.body:
+                if isinstance(node, ast.FunctionDef) and node.name != "__init__":
+                    self.assertNotIn(node.name, plain + stored, name)
+        for name, node in nodes(ast.Attribute):
+            if isinstance(node.ctx, ast.Store):
+                self.assertEqual(getattr(node.value, "id", None), "self", (name, node.lineno))
+                self.assertNotIn(node.attr, plain, (name, node.lineno))
+
     def test_module_level_names_are_bound_once(self):
         for name, tree in TREES.items():
             words = []
@@ -169,9 +188,10 @@ class CodeTest(unittest.TestCase):
             self.assertEqual(sorted(words), sorted(set(words)), name)
 
     def test_methods(self):
+        own = [node.name for _, holder in nodes(ast.ClassDef) for node in holder.body if hasattr(node, "name")]
         for name, node in nodes(ast.Call):
             if isinstance(node.func, ast.Attribute):
-                self.assertIn(node.func.attr, METHODS, (name, node.lineno))
+                self.assertIn(node.func.attr, METHODS + own, (name, node.lineno))
                 self.assertEqual(node.keywords, [], (name, node.lineno))
             else:
                 self.assertIsInstance(node.func, ast.Name, (name, node.lineno))

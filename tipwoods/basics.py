@@ -94,6 +94,11 @@ def text_of(bush):
     return bush[0] + "(" + "".join(branches) + ")"
 
 
+def parts_in_text(text):
+    """Return how many parts the bush with a text has."""
+    return text.count("(") + text.count(".")
+
+
 def grow(bush, growth):
     """Return a bush grown by a growth, however many parts that has."""
     if not bush:

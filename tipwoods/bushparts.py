@@ -1,6 +1,6 @@
 """The parts of a bush: which bushes stand in it, where, and how often."""
 
-from tipwoods.basics import ALPHABET, parts_of, roads_and_parts, text_of
+from tipwoods.basics import ALPHABET, parts_in_text, parts_of, roads_and_parts, text_of
 from tipwoods.bushes import check_bush
 
 
@@ -44,11 +44,6 @@ def count_unlike_parts(bush):
     return len(_parts_by_text(bush))
 
 
-def _parts_in_text(text):
-    """Return how many parts the bush with a text has."""
-    return text.count("(") + text.count(".")
-
-
 def greatest_twin(bush):
     """Return the twin with the most parts, the first one of several, None if there is none."""
     check_bush(bush)
@@ -56,6 +51,6 @@ def greatest_twin(bush):
     twins = [text for text in found if len(found[text]) > 1]
     if not twins:
         return None
-    most = max([_parts_in_text(text) for text in twins])
-    first = min([text for text in twins if _parts_in_text(text) == most])
+    most = max([parts_in_text(text) for text in twins])
+    first = min([text for text in twins if parts_in_text(text) == most])
     return found[first][0]

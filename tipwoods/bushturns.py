@@ -6,18 +6,18 @@ from tipwoods.errors import InvalidNames
 from tipwoods.roads import part_on_road
 
 
-def _mirror(bush):
+def mirror_of(bush):
     """Return the mirror of a bush."""
     if not bush:
         return bush
-    branches = [_mirror(branch) for branch in reversed(bush[1:])]
+    branches = [mirror_of(branch) for branch in reversed(bush[1:])]
     return (bush[0], *branches)
 
 
 def mirrored_bush(bush):
     """Return the mirror of a bush."""
     check_bush(bush)
-    return _mirror(bush)
+    return mirror_of(bush)
 
 
 def mirrored_road(bush, road):
@@ -35,7 +35,7 @@ def mirrored_road(bush, road):
 def is_own_mirror(bush):
     """Return whether a bush is its mirror."""
     check_bush(bush)
-    return bush == _mirror(bush)
+    return bush == mirror_of(bush)
 
 
 def check_names(value):
