@@ -1,5 +1,7 @@
 """[51]: bushes and primes of a store, counted; with [11], [13]."""
 
+import random
+import time
 import unittest
 
 from tests.samples import LETTERS, bushes_with, chain, no_numbers, raised_by
@@ -85,22 +87,42 @@ class CountsTest(unittest.TestCase):
         self.assertEqual(prime_list((("s", 1),), 16), [])
         self.assertEqual(prime_list((("s", 1),), 1), [chain(1)])
 
+    def test_great_counts_that_are_known(self):
+        self.assertEqual([primes_counted(K, 16, 12), bushes_counted(K, 16, 12)], [3866848816, 4745793780])
+        self.assertEqual(primes_counted((("f", 6),), 16, 81), 8175951659117794)
+        self.assertEqual([primes_counted(K, 16, 100), bushes_counted(K, 16, 100)], [0, 0])
+        six = tuple((letter, 6) for letter in "abcdefgh")
+        self.assertEqual(bushes_counted(six, 16, 81), 8 ** 16 * fuss(6, 16))
+        self.assertEqual(primes_counted(six, 16, 81), 8 ** 16 * 8175951659117794)
+        self.assertEqual(primes_counted((("f", 2),), 15, 16), fuss(2, 15) - plain_cut((("f", 2),), 15, 16))
+        mixed = tuple(("m", branches) for branches in range(1, 7))
+        self.assertEqual(primes_counted(mixed, 16, 60), bushes_counted(mixed, 16, 60) - plain_cut(mixed, 16, 60))
+
+    def test_bushes_that_are_cut_and_primes_are_all(self):
+        # Each bush with a knot has one first prime, and one rest behind it.
+        chance = random.Random(8)
+        for _ in range(60):
+            kinds = {(chance.choice("abc"), chance.randrange(1, 7)) for _ in range(chance.randrange(1, 9))}
+            store = tuple(sorted(kinds))
+            by_chance = chance.randrange(1, 60)
+            for knots, tips in ((16, 12), (16, 96), (15, 16), (13, by_chance), (16, 48), (9, 24), (16, 1)):
+                cut = plain_cut(store, knots, tips)
+                self.assertEqual(primes_counted(store, knots, tips) + cut, bushes_counted(store, knots, tips))
+
+    def test_many_counts_are_told_soon(self):
+        stores = [K, EIGHT, (("f", 6),), tuple((letter, 6) for letter in "abcdefgh"),
+                  tuple(("m", branches) for branches in range(1, 7))]
+        counts = [(store, 16, tips) for store in stores for tips in range(1, 101)]
+        for function in (primes_counted, bushes_counted):
+            begin = time.perf_counter()
+            for store, knots, tips in counts:
+                function(store, knots, tips)
+            self.assertLess((time.perf_counter() - begin) / len(counts), 0.002, function.__name__)
+
     def test_the_tip_is_of_each_store(self):
         for store, _ in STORES:
             self.assertEqual([bushes_counted(store, 0, 1), bushes_counted(store, 0, 2), primes_counted(store, 0, 1),
                               prime_list(store, 0)], [1, 0, 0, []])
-
-    def test_counts_of_tips_add_up(self):
-        # With primes of all sizes, each bush has one first prime, and one rest behind it.
-        for store in (K, EIGHT, (("a", 1), ("a", 3))):
-            for knots, tips in ((6, 4), (9, 6), (12, 8), (16, 12)):
-                found = 0
-                for above in range(1, knots + 1):
-                    for middle in range(1, tips + 1):
-                        if (knots - above) % middle == 0 and tips % middle == 0:
-                            below = bushes_counted(store, (knots - above) // middle, tips // middle)
-                            found += below and below * primes_counted(store, above, middle)
-                self.assertEqual(found, bushes_counted(store, knots, tips))
 
     def test_least_and_greatest_of_each_number(self):
         for function in (bushes_counted, primes_counted):
@@ -118,6 +140,17 @@ class CountsTest(unittest.TestCase):
             self.assertEqual(bushes_counted(EIGHT[:many], 1, 1), 1 + (many > 6))
             self.assertEqual(len(prime_list(EIGHT[:many], 1)), many)
         self.assertEqual(bushes_counted((("a", 1), ("a", 6), ("z", 1)), 1, 6), 1)
+
+
+def plain_cut(store, knots, tips):
+    """How many bushes have a first prime, and a bush that is not the tip behind it."""
+    found = 0
+    for above in range(1, knots):
+        for middle in range(1, tips + 1):
+            if (knots - above) % middle == 0 and tips % middle == 0:
+                below = bushes_counted(store, (knots - above) // middle, tips // middle)
+                found += below and below * primes_counted(store, above, middle)
+    return found
 
 
 def fuss(branches, knots):

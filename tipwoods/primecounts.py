@@ -9,6 +9,7 @@ from tipwoods.primes import is_prime_bush
 MOST_KNOTS = 16
 MOST_TIPS = 100
 MOST_LISTED = 300
+WAYS_BITS = 64
 
 
 def _is_kind(value):
@@ -34,25 +35,44 @@ def check_store(value):
 
 
 def _kind_choices(store, knots):
-    """Return the list of in how many ways so many kinds, in order, have 0, 1, .. more branches than there are kinds."""
-    ways = [1]
+    """Return the list, for 0 to so many kinds, in order, of in how many ways they have how many branches.
+
+    Each entry is one integer, in which the ways with 0, 1, .. more branches than
+    there are kinds stand behind one another, each in bits of its own: so all of
+    them are multiplied at once. They are at most 8 to the power of 16 together.
+    """
+    kinds = 0
+    for _, branches in store:
+        kinds += 1 << WAYS_BITS * (branches - 1)
+    choices = [1]
     for _ in range(knots):
-        longer = [0] * (len(ways) + MOST_BRANCHES - 1)
-        for more, many in enumerate(ways):
-            for _, branches in store:
-                longer[more + branches - 1] += many
-        ways = longer
-    return ways
+        choices.append(choices[-1] * kinds)
+    return choices
 
 
-def _count_by_tips(store, knots):
-    """Return a dict with, for each number of tips that there may be, how many bushes have so many knots and it."""
-    found = {}
-    for more, many in enumerate(_kind_choices(store, knots)):
-        # A bush is told by the kinds of its knots, and its tips, in the order of its
-        # text. Of all the orders that come of one by leading it round, one is a bush's.
-        tips = more + 1
-        found[tips] = many * comb(knots + tips, tips) // (knots + tips)
+def _count_by_ways(ways, knots, tips):
+    """Return how many bushes have so many knots and tips, by the ways in which knots have so many branches."""
+    # A bush is told by the kinds of its knots, and its tips, in the order of its
+    # text. Of all the orders that come of one by leading it round, one is a bush's.
+    return ways * comb(knots + tips, tips) // (knots + tips)
+
+
+def _count_bushes(choices, knots, tips):
+    """Return how many bushes have so many knots and tips, by the choices of kinds."""
+    # Each branch leads to a knot or to a tip, and all of these but the root are led to.
+    ways = choices[knots] >> WAYS_BITS * (tips - 1) & (1 << WAYS_BITS) - 1
+    return _count_by_ways(ways, knots, tips)
+
+
+def _count_all_bushes(choices, knots):
+    """Return how many bushes have so many knots, by the choices of kinds."""
+    found = 0
+    tips = 1
+    left = choices[knots]
+    while left > 0:
+        found += _count_by_ways(left & (1 << WAYS_BITS) - 1, knots, tips)
+        left >>= WAYS_BITS
+        tips += 1
     return found
 
 
@@ -61,34 +81,30 @@ def bushes_counted(store, knots, tips):
     check_store(store)
     check_number(knots, 0, MOST_KNOTS)
     check_number(tips, 1, MOST_TIPS)
-    return _count_by_tips(store, knots).get(tips, 0)
+    return _count_bushes(_kind_choices(store, knots), knots, tips)
 
 
-def _count_cut(bushes, primes, knots, tips):
-    """Return how many bushes with so many knots and tips have, ahead of a lower bush with knots, a first prime.
-
-    Bushes and primes are told by lists of dicts, by their knots and tips.
-    """
+def _count_cut(choices, knots, tips, known):
+    """Return how many bushes with so many knots and tips have, behind an upper bush with knots, a last prime."""
     found = 0
-    for above in range(1, knots):
-        for middle, many in primes[above].items():
-            # Each of the tips of the prime brings all knots and tips of the lower bush.
-            below, rest = divmod(knots - above, middle)
-            if rest == 0 and tips % middle == 0:
-                found += many * bushes[below].get(tips // middle, 0)
+    for middle in range(1, min(tips, knots - 1) + 1):
+        if tips % middle == 0:
+            # Each of the tips of the upper bush brings all knots and tips of the last prime.
+            for below in range(1, (knots - 1) // middle + 1):
+                above = _count_bushes(choices, knots - below * middle, middle)
+                if above > 0:
+                    found += above * _count_primes(choices, below, tips // middle, known)
     return found
 
 
-def _primes_by_tips(store, knots):
-    """Return a dict with, for each number of tips that there may be, how many primes have so many knots and it."""
-    bushes = [_count_by_tips(store, many) for many in range(knots + 1)]
-    primes = [{}]
-    for many in range(1, knots + 1):
-        counts = {}
-        for tips in bushes[many]:
-            counts[tips] = bushes[many][tips] - _count_cut(bushes, primes, many, tips)
-        primes.append(counts)
-    return primes[knots]
+def _count_primes(choices, knots, tips, known):
+    """Return how many primes have so many knots and tips, knots being 1 or more; what is known is kept in a dict."""
+    if (knots, tips) not in known:
+        found = _count_bushes(choices, knots, tips)
+        if found > 0:
+            found -= _count_cut(choices, knots, tips, known)
+        known[(knots, tips)] = found
+    return known[(knots, tips)]
 
 
 def primes_counted(store, knots, tips):
@@ -96,7 +112,9 @@ def primes_counted(store, knots, tips):
     check_store(store)
     check_number(knots, 0, MOST_KNOTS)
     check_number(tips, 1, MOST_TIPS)
-    return _primes_by_tips(store, knots).get(tips, 0)
+    if knots == 0:
+        return 0
+    return _count_primes(_kind_choices(store, knots), knots, tips, {})
 
 
 def _rows_of(bushes, many, knots):
@@ -128,7 +146,6 @@ def prime_list(store, knots):
     """Return the ascending list of all prime bushes of a store with so many knots."""
     check_store(store)
     check_number(knots, 0, MOST_KNOTS)
-    counts = _count_by_tips(store, knots)
-    if sum(counts.values()) > MOST_LISTED:
+    if _count_all_bushes(_kind_choices(store, knots), knots) > MOST_LISTED:
         raise TooMany(MOST_LISTED)
     return sorted([bush for bush in _bushes_of(store, knots) if is_prime_bush(bush)])
