@@ -66,12 +66,12 @@ class RoundBushesTest(unittest.TestCase):
         self.assertEqual(sorted(set(told)), [False, True])
 
     def test_just_four_hundred_parts(self):
-        three = ("t", (), (), ())
-        for parts in (132, 133, 134):
-            other = three_tipped(parts)
-            above, below = plainly_grown(three, other), plainly_grown(other, three)
-            self.assertEqual([count_parts(above), count_parts(below)], [1 + 3 * parts, parts + 9])
-            if parts <= 133:
+        # Below a knot of some tips, a bush of the parts comes as often as there are tips.
+        for tips, parts in ((3, 133), (3, 134), (2, 199), (2, 200), (4, 99), (4, 100), (6, 66), (6, 67)):
+            knot, other = ("t", *[()] * tips), four_tipped(parts)
+            above, below = plainly_grown(knot, other), plainly_grown(other, knot)
+            self.assertEqual([count_parts(above), count_parts(below)], [1 + tips * parts, parts + 4 * tips])
+            if 1 + tips * parts <= 400:
                 self.assertEqual(round_bushes(above), [above, below])
                 self.assertEqual(round_bushes(below), [below, above])
             else:
@@ -92,10 +92,10 @@ class RoundBushesTest(unittest.TestCase):
         self.assertEqual(round_index(wide_last, wide_last), 0)
 
 
-def three_tipped(parts):
-    """A prime bush with three tips and so many parts."""
-    left = parts - 5 - 44 - 40
-    return ("p", chain(44, "x"), ("p", chain(left, "y"), chain(40, "z")))
+def four_tipped(parts):
+    """A prime bush with four tips and so many parts."""
+    left = parts - 5
+    return ("p", *[chain(left // 4 + (at < left % 4), letter) for at, letter in enumerate("wxyz")])
 
 
 def plain_led_over(bush, other, many, signs):

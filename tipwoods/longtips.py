@@ -111,8 +111,8 @@ def tip_of_runs(long, runs):
 
 def _runs_by(long, choices):
     """Return the runs that lead, in each pair that has years, by the road that is chosen for it."""
-    years = [years for _, years in pairs_with_years(long)]
-    return tuple(list(zip(choices, years)))
+    times = [years for _, years in pairs_with_years(long)]
+    return tuple(list(zip(choices, times)))
 
 
 def near_runs(long):

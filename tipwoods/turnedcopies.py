@@ -93,8 +93,11 @@ class Ranks:
     """
 
     def __init__(self, bush):
-        self.parts, self.form_numbers, self.forms = parts_and_forms(bush)
-        self.counts = _counts_of_copies(self.forms)
+        parts, form_numbers, forms = parts_and_forms(bush)
+        self.parts = parts
+        self.form_numbers = form_numbers
+        self.forms = forms
+        self.counts = _counts_of_copies(forms)
         self.known = {}
 
     def lesser(self, number, place):
