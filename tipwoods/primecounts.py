@@ -10,6 +10,7 @@ MOST_KNOTS = 16
 MOST_TIPS = 100
 MOST_LISTED = 300
 WAYS_BITS = 64
+WAYS_MASK = (1 << 64) - 1
 
 
 def _is_kind(value):
@@ -43,7 +44,7 @@ def _kind_choices(store, knots):
     """
     kinds = 0
     for _, branches in store:
-        kinds += 1 << WAYS_BITS * (branches - 1)
+        kinds += 1 << (WAYS_BITS * (branches - 1))
     choices = [1]
     for _ in range(knots):
         choices.append(choices[-1] * kinds)
@@ -60,8 +61,8 @@ def _count_by_ways(ways, knots, tips):
 def _count_bushes(choices, knots, tips):
     """Return how many bushes have so many knots and tips, by the choices of kinds."""
     # Each branch leads to a knot or to a tip, and all of these but the root are led to.
-    ways = choices[knots] >> WAYS_BITS * (tips - 1) & (1 << WAYS_BITS) - 1
-    return _count_by_ways(ways, knots, tips)
+    ways = choices[knots] >> (WAYS_BITS * (tips - 1))
+    return _count_by_ways(ways & WAYS_MASK, knots, tips)
 
 
 def _count_all_bushes(choices, knots):
@@ -70,7 +71,7 @@ def _count_all_bushes(choices, knots):
     tips = 1
     left = choices[knots]
     while left > 0:
-        found += _count_by_ways(left & (1 << WAYS_BITS) - 1, knots, tips)
+        found += _count_by_ways(left & WAYS_MASK, knots, tips)
         left >>= WAYS_BITS
         tips += 1
     return found

@@ -46,14 +46,14 @@ def row_words(growths):
 
 def _packed(word):
     """Return the integer that has, in bits of its own for each letter, how often it stands in a word."""
-    return sum([1 << LETTER_BITS * ALPHABET.index(letter) for letter in word])
+    return sum([1 << (LETTER_BITS * ALPHABET.index(letter)) for letter in word])
 
 
 def _unpacked(number):
     """Return the string of the letters of a word, in the order of the alphabet, that is packed in an integer."""
     text = ""
     for letter in ALPHABET:
-        text += letter * (number & (1 << LETTER_BITS) - 1)
+        text += letter * (number & ((1 << LETTER_BITS) - 1))
         number >>= LETTER_BITS
     return text
 
