@@ -26,7 +26,7 @@ def is_store(value):
         return False
     if not all([_is_kind(pair) for pair in value]):
         return False
-    return all([value[at] < value[at + 1] for at in range(len(value) - 1)])
+    return all([pair < mate for pair, mate in zip(value, value[1:])])
 
 
 def check_store(value):
