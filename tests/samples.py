@@ -3,6 +3,7 @@
 from functools import lru_cache
 
 from tipwoods import errors
+from tipwoods.gardeners import Gardener
 
 F = ("f", (), ())
 S = ("s", ())
@@ -172,6 +173,7 @@ ODD_VALUES = [
     (F, "f"), (("f",),), ("x",) * 1000, (-1,) * 1000, (None, None), (None, -1),
     nested(99, tuple), nested(98, tuple) + (1,), (nested(98, tuple), True),
     errors.BushError("odd"), errors.InvalidText(3), (errors.TooMany(400),), [errors.NoKnot()],
+    Gardener(()), (Gardener(F),), [Gardener(S)], ("f", Gardener(())),
 ]
 
 # Wrong as a bush, and as a growth, a pair's growth or a row's item, too.
@@ -226,6 +228,69 @@ NO_BUNCHES = [
     None, 0, "", "fs", (), [], [F], [F, S], F, D, ((),), (F, ()), ((), F), (F, F), (F, S, F), (S, ("s", ())),
     (F, None), (F, ("f",)), (F, [S]), (F, (S,)), ((F,),), tuple(chain(knots) for knots in range(1, 8)), (wide(401),),
     (chain(61), F), (F, doubled(100)), (doubled(100), doubled(100)), (F, True), (errors.NoKnot(),), (F, 10 ** 119),
+]
+
+NO_COUNTS = [
+    None, 0, 1, "", "1", (), [], [1], (0,), (0, 0), (1, 0), (0, 6, 0), (-1,), (1, -1), (True,), (0, True), ("1",), (None,),
+    ((1,),), (0, 10 ** 18 + 1), (10 ** 18 + 1, 1), (0,) * 61 + (1,), (1,) * 62, (0, [1]), (0, "6"), F, (0, 10 ** 119),
+    (0, None, 1), (1, -10 ** 119, 1), (errors.NoKnot(),), (0, ()),
+]
+
+NO_WORDS = [
+    None, 0, "", "ab", (), [], [("a", 1)], ("a", 1), (("a",),), (("a", 1, 1),), (["a", 1],), (("a", 0),), (("a", -1),),
+    (("a", True),), (("a", "1"),), (("a", None),), (("A", 1),), (("a b", 1),), (("`", 1),), (("{", 1),), ((1, "a"),),
+    ((None, 1),), (("a", 10 ** 18 + 1),), (("a" * 61, 1),), (("b", 1), ("a", 1)), (("a", 1), ("a", 1)),
+    (("a", 1), ("a", 2)), (("a", 2), ("a", 1)), (("a", 1), ("", 1)), (("a", 1), None), (("a", 1), ("b",)),
+    tuple((first + second, 1) for first in "abcdefghi" for second in LETTERS)[:201], ((("a",), 1),), F,
+    ("a1",), (("a", 1), ("b", errors.NoKnot())), (("a\n", 1),), (("a.", 1),), (("", 1), ("a", 1), ("aa", 10 ** 119)),
+]
+
+NO_GRAFTS = [
+    None, 0, "", [], [(0, F)], (0, F), ((0,),), ((0, F, F),), ([0, F],), ((-1, F),), ((101, F),), ((True, F),), ((False, F),),
+    (("0", F),), ((None, F),), ((F, 0),), ((0, None),), ((0, ("f",)),), ((0, [S]),), ((0, F), None), ((0, F), (101, F)),
+    ((0, ()),) * 13, ((0, F),) * 13, F, (F,), ((),), ((0, wide(400)), (0, ())), ((0, wide(201)), (1, wide(200))),
+    ((0, chain(60)), (0, S)), ((0, chain(31)), (0, chain(30))), ((0, wide(401)),), ((0, chain(61)),), ((0, doubled(100)),),
+    ((100, ()),) * 12 + ((0, ()),), ((10 ** 119, F),), ((0, F), (0, errors.NoKnot())), ("0f",),
+]
+
+# Wrong as a mixed bush with two sorts, and as a mixed growth's item, too.
+NO_MIXED = [
+    None, True, False, -1, 2, 4, "0", "", (), (0,), [0], [], ("f",), ("f", 2), ("f", -1), ("f", True), ("f", ()), ("f", "0"),
+    ("f", None), ("f", 0, 2), ("F", 0), ("fs", 0), ("", 0), (0, 1), ("f", [0]), ["f", 0], ("f", 0, 1, 0, 1, 0, 1, 0),
+    ("f", ("s", 0), ("s",)), ("f", ("s", 0), ("s", 2)), F, S, chain(61, "s", 0), chain(60, "s", ("f", 0)), doubled(100),
+    ("f", chain(60, "s", 1), 0), 10 ** 119, errors.NoKnot(), ("f", errors.NoKnot()),
+    ("f", *[("f", *[("f", *[("f", 0, 0, 0, 0, 0)] * 4)] * 4)] * 4, 0, 0),
+]
+
+# Wrong as a mixed growth with two sorts.
+NO_CHANGES = [(0, wrong) for wrong in NO_MIXED] + [(wrong, 1) for wrong in NO_MIXED] + [
+    None, 0, "", "01", (), (0,), (0, 1, 0), [0, 1], [], ((0, 1),), (0, [1]), ("f", 0, 1), F, (0, 1, 0, 1),
+]
+
+NO_STOCKS = [
+    None, 0, "", (), [], [F], F, ((),), (F, ()), ((), F), (F,) * 7, (F, None), (F, ("f",)), (F, [S]), (F, (S,)), ((F,),),
+    (wide(41),), (F, chain(40)), (wide(401),), (doubled(100),), (chain(61),), (True,), (errors.NoKnot(),), (F, 10 ** 119),
+]
+
+NO_HEARDS = [
+    None, 0, "", "f0", [], [("f", 0)], ("f", 0), (("f",),), (("f", 0, 0),), (["f", 0],), (("f", -1),), (("f", 6),),
+    (("f", True),), (("f", False),), (("f", "0"),), (("f", None),), (("F", 0),), (("fs", 0),), (("", 0),), ((0, "f"),),
+    ((None, 0),), (("f", 0), None), (("f", 0), ("f", 6)), (("f", 0),) * 61, F, ("f0",), ((),), (("f", 10 ** 119),),
+    (("f", errors.NoKnot()),), ((("f",), 0),),
+]
+
+NO_DEEDS = [
+    None, 0, "", "mirror", (), ("mirror", 0), ("mirror", ()), ["mirror"], ("year",), ("year", F, F), ("year", None),
+    ("year", ("f",)), ("year", [S]), ("year", wide(401)), ("year", chain(61)), ("year", doubled(100)), ("Year", F),
+    ("rename",), ("rename", "a"), ("rename", "a", "b", "c"), ("rename", "A", "b"), ("rename", "a", "B"),
+    ("rename", "ab", "c"), ("rename", "a", ""), ("rename", 1, "a"), ("rename", "a", None), ("cut",), ("cut", -1),
+    ("cut", 61), ("cut", True), ("cut", False), ("cut", "1"), ("cut", None), ("cut", 1, 1), ("cut", 10 ** 119), F, S,
+    ("prune", 1), (None,), (("mirror",),), (1, F), (errors.NoKnot(),), ("year", errors.NoKnot()), ("cut", ()),
+]
+
+NO_LOGS = [(wrong,) for wrong in NO_DEEDS] + [(("mirror",), wrong) for wrong in NO_DEEDS] + [
+    None, 0, "", "mirror", [], [("mirror",)], ("mirror",), ("year", F), ("cut", 1), (("mirror",),) * 21, F, S,
+    (("year", ()),) * 20 + (("cut", 0),), errors.NoKnot(),
 ]
 
 

@@ -3,17 +3,21 @@
 import unittest
 
 from tests.samples import (
-    D, F, LETTERS, NO_BUNCHES, NO_BUSHES, NO_LONG_ROWS, NO_NAMES, NO_ROADS, NO_ROWS, NO_STORES, ODD_VALUES, S, W, chain,
-    doubled, no_numbers, plainly_grown, raised_by, wide,
+    D, F, LETTERS, NO_BUNCHES, NO_BUSHES, NO_CHANGES, NO_COUNTS, NO_GRAFTS, NO_HEARDS, NO_LOGS, NO_LONG_ROWS, NO_MIXED,
+    NO_NAMES, NO_ROADS, NO_ROWS, NO_STOCKS, NO_STORES, NO_WORDS, ODD_VALUES, S, W, chain, doubled, no_numbers,
+    plainly_grown, raised_by, wide,
 )
 from tipwoods import (
-    bunches, bunchways, bushes, bushnumbers, bushparts, bushtexts, bushturns, cuts, formcuts, forms, growing, lastyears,
-    longcounts, longroads, longrows, longtips, powers, primecounts, primes, roads, roadsapart, roadwords, rounds,
-    rowalikes, rowcounts, sharedyears, tipclasses, turnedcopies, turnings,
+    bunches, bunchways, bushes, bushnumbers, bushparts, bushtexts, bushturns, cuts, depthbushes, depthcuts, doubleroads,
+    formcuts, forms, gardens, graftrows, grafts, graftwoods, growing, heardroads, lastyears, logforms, longcounts,
+    longroads, longrows, longtips, mixedalike, mixedbushes, mixedyears, origins, powers, primecounts, primes, roads,
+    roadsapart, roadwords, rounds, rowalikes, rowcounts, sharedyears, tipclasses, tops, turnedcopies, turnings,
+    wordbushes,
 )
 from tipwoods.errors import (
-    InvalidBunch, InvalidBush, InvalidGrowths, InvalidLongRow, InvalidNames, InvalidNumber, InvalidRoad, InvalidRuns,
-    InvalidStore, InvalidText, NoKnot, TooMany,
+    InvalidBunch, InvalidBush, InvalidCounts, InvalidGrafts, InvalidGrowths, InvalidHeard, InvalidLog, InvalidLongRow,
+    InvalidMixed, InvalidMixedRow, InvalidNames, InvalidNumber, InvalidRoad, InvalidRuns, InvalidStock, InvalidStore,
+    InvalidText, InvalidWords, NoKnot, TooMany,
 )
 
 N = 10 ** 30
@@ -32,12 +36,32 @@ NO_RUNS = [(), [((1,), 1)], ((1,), 1), (((1,), 2),), (((1,), 0),), (((1,), True)
            (((), 1),), (((1,), 1), ((), 1)), (((1,), 1), ((1,), 1)), ([(1,), 1],), (((1,), 1, 1),), (((1,), None),)]
 RUNS = ((((1,), 1),), NO_RUNS + ODD_VALUES, InvalidRuns)
 BUNCH = ((F, S), NO_BUNCHES + ODD_VALUES, InvalidBunch)
+COUNTS = ((0, 0, 2), NO_COUNTS + ODD_VALUES, InvalidCounts)
+WORDS = ((("ab", 2), ("b", 10 ** 18)), NO_WORDS + ODD_VALUES, InvalidWords)
+GRAFTS = (((1, F), (1, S)), NO_GRAFTS + ODD_VALUES, InvalidGrafts)
+MIXED = (("f", 0, 1), NO_MIXED + ODD_VALUES, InvalidMixed)
+CHANGE = ((("f", 0, 1), 0), NO_CHANGES + ODD_VALUES, InvalidMixedRow)
+NO_CHANGE_ROWS = [(wrong,) for wrong in NO_CHANGES] + [((0, 1), wrong) for wrong in NO_CHANGES] + [
+    None, 0, "", [], [(0, 1)], (0, 1), ((0, 1),) * 13, F, (("f", 0, 1), 0),
+]
+CHANGES = (((("f", 0, 1), 0),), NO_CHANGE_ROWS + ODD_VALUES, InvalidMixedRow)
+STOCK = ((F, S, ("f", S, ())), NO_STOCKS + ODD_VALUES, InvalidStock)
+HEARD = ((("f", 0), ("s", 0)), NO_HEARDS + ODD_VALUES, InvalidHeard)
+NO_STOCK_ROWS = [None, 0, "", [], [0], (3,), (-1,), (True,), (False,), ("0",), (None,), ((0,),), (0, 3), (0, None),
+                 (0,) * 61, F, (10 ** 119,), (0, 1, -1)]
+STOCK_ROW = ((0, 1), NO_STOCK_ROWS + ODD_VALUES, InvalidGrowths)
+NO_HEARD_ROWS = [(wrong,) for wrong in NO_HEARDS] + [(HEARD[0], wrong) for wrong in NO_HEARDS] + [
+    None, 0, "", (), [], [HEARD[0]], HEARD[0], (HEARD[0],) * 7, ((),) * 7, F,
+]
+HEARDS = ((HEARD[0], (("f", 1),)), NO_HEARD_ROWS + ODD_VALUES, InvalidHeard)
+LOG = ((("year", F), ("mirror",), ("rename", "f", "g"), ("cut", 3)), NO_LOGS + ODD_VALUES, InvalidLog)
 
 
 def number(good, least, greatest):
     return (good, no_numbers(least, greatest) + [value for value in ODD_VALUES if value is not None], InvalidNumber)
 
 
+SORTS = number(2, 1, 4)
 FUNCTIONS = [
     (bushes.knots_of, [BUSH]),
     (bushes.tips_of, [BUSH]),
@@ -139,6 +163,56 @@ FUNCTIONS = [
     (roadsapart.word_apart, [ROW, ROW]),
     (roadsapart.letters_apart, [ROW, ROW]),
     (roadsapart.depth_apart, [ROW, ROW]),
+    (depthbushes.can_have_depths, [COUNTS]),
+    (depthbushes.fewest_by_depths, [COUNTS]),
+    (depthbushes.bush_by_depths, [COUNTS]),
+    (wordbushes.can_have_words, [WORDS]),
+    (wordbushes.fewest_by_words, [WORDS]),
+    (wordbushes.bush_by_words, [WORDS]),
+    (depthcuts.cut_by_depths, [COUNTS, COUNTS]),
+    (depthcuts.depth_root, [COUNTS, number(2, 1, 12)]),
+    (depthcuts.tips_after, [BUSH, number(7, 0, 2000), number(1, 0, 60)]),
+    (grafts.grafted, [BUSH, GRAFTS]),
+    (grafts.need_of, [GRAFTS]),
+    (grafts.lot_of, [GRAFTS]),
+    (graftrows.same_grafts, [GRAFTS, GRAFTS]),
+    (graftrows.apart_bush, [GRAFTS, GRAFTS]),
+    (graftrows.can_swap, [GRAFTS, number(0, 0, 0)]),
+    (graftrows.led_past, [GRAFTS, number(0, 0, 0)]),
+    (graftwoods.wood_of, [GRAFTS]),
+    (graftwoods.count_led, [GRAFTS]),
+    (graftwoods.are_led, [GRAFTS, GRAFTS]),
+    (graftwoods.first_root, [BUSH]),
+    (tops.count_knot_rows, [BUSH]),
+    (tops.is_top, [BUSH, BUSH]),
+    (tops.lot_between, [BUSH, BUSH]),
+    (tops.count_tops, [BUSH]),
+    (tops.common_top, [BUSH, BUSH]),
+    (tops.joined_tops, [BUSH, BUSH]),
+    (tops.clash_road, [BUSH, BUSH]),
+    (mixedbushes.mixed_grown, [SORTS, MIXED, CHANGES]),
+    (mixedbushes.mixed_tips, [SORTS, MIXED, CHANGES]),
+    (mixedbushes.mixed_tip, [SORTS, MIXED, CHANGES, number(2, 0, 2)]),
+    (mixedalike.grow_alike, [SORTS, MIXED, CHANGES, MIXED, CHANGES]),
+    (mixedalike.mixed_unlike, [SORTS, MIXED, CHANGES, MIXED, CHANGES]),
+    (mixedyears.lots_of_years, [SORTS, MIXED, CHANGE]),
+    (mixedyears.first_unlike, [SORTS, MIXED, CHANGE, MIXED, CHANGE]),
+    (mixedyears.tips_in_year, [SORTS, MIXED, CHANGE, number(7, 0, 10 ** 30), number(7, 1, 10 ** 9)]),
+    (mixedyears.undoing_change, [SORTS, CHANGE]),
+    (heardroads.heard_of, [BUSH]),
+    (heardroads.row_fits, [STOCK, STOCK_ROW, HEARD]),
+    (heardroads.first_fitting, [STOCK, HEARD]),
+    (heardroads.count_fitting, [STOCK, HEARD]),
+    (heardroads.heard_so_far, [STOCK, HEARD]),
+    (heardroads.rows_fitting, [STOCK, HEARDS]),
+    (doubleroads.each_road_tells, [STOCK]),
+    (doubleroads.double_road, [STOCK]),
+    (gardens.tended, [BUSH, LOG]),
+    (gardens.tended_on, [BUSH, LOG]),
+    (logforms.log_form, [LOG]),
+    (logforms.are_like_logs, [LOG, LOG]),
+    (origins.origin_of, [BUSH, LOG, ROAD]),
+    (origins.spared_deeds, [BUSH, LOG]),
 ]
 
 # Functions whose last argument may be any value.
@@ -184,6 +258,17 @@ LATE = [
     (roadsapart.word_apart, ((), (MANY,) * 12), TooMany),
     (roadsapart.letters_apart, ((MANY,) * 12, ()), TooMany),
     (roadsapart.letters_apart, ((), (MANY,) * 12), TooMany),
+    (depthbushes.bush_by_depths, ((0,) * 60 + (10 ** 18,),), TooMany),
+    (wordbushes.bush_by_words, ((("ab" * 30, 10 ** 18),),), TooMany),
+    (mixedbushes.mixed_grown, (2, ("f", 0, 1), ((("f", 0, 0), 1),) * 12), TooMany),
+    (mixedbushes.mixed_grown, (2, chain(60, "s", 1), ((0, ("f", 1)),)), TooMany),
+    (heardroads.rows_fitting, ((S, S, ("s", S)), ((("s", 0),) * 60,)), TooMany),
+    (gardens.tended, (wide(400), (("year", F), ("cut", 0))), TooMany),
+    (gardens.tended_on, (chain(60), (("mirror",), ("year", S), ("cut", 0))), TooMany),
+    (logforms.log_form, ((("year", wide(400)), ("year", F), ("cut", 0)),), TooMany),
+    (logforms.are_like_logs, ((("year", wide(400)), ("year", F)), ()), TooMany),
+    (logforms.are_like_logs, ((), (("year", chain(60)), ("year", S))), TooMany),
+    (origins.spared_deeds, (chain(60), (("cut", 59), ("year", S))), TooMany),
 ]
 
 # Calls that return lists.
@@ -206,6 +291,15 @@ LISTS = [
     (turnedcopies.all_copies, (D,)),
     (turnedcopies.all_copies, ((),)),
     (tipclasses.tip_classes, (D,)),
+    (heardroads.heard_of, (W,)),
+    (heardroads.heard_of, ((),)),
+    (heardroads.rows_fitting, ((F, S), ((("f", 0),),))),
+    (heardroads.rows_fitting, ((F, S), ((("a", 0),),))),
+    (heardroads.rows_fitting, ((F, S), ((),))),
+    (gardens.tended_on, (F, (("mirror",), ("year", S)))),
+    (gardens.tended_on, (F, ())),
+    (origins.spared_deeds, (F, (("mirror",), ("year", S)))),
+    (origins.spared_deeds, (F, ())),
 ]
 
 
@@ -261,6 +355,33 @@ class ArgumentsTest(unittest.TestCase):
                     self.assertIs(function(*goods, value), False, function.__name__)
         for wrong in BUSH[1]:
             self.assert_raises_just(InvalidBush, cuts.is_cut, (wrong, wrong))
+        for wrong in SORTS[1]:
+            self.assert_raises_just(InvalidNumber, mixedbushes.is_mixed, (wrong, wrong))
+            self.assert_raises_just(InvalidNumber, mixedbushes.are_changes, (wrong, ()))
+
+    def test_each_function_that_tells_values_apart(self):
+        for function, wrongs in ((grafts.is_graft_row, GRAFTS[1]), (heardroads.is_heard, HEARD[1]),
+                                 (heardroads.is_stock, STOCK[1]), (gardens.is_log, LOG[1])):
+            for wrong in wrongs:
+                self.assertIs(function(wrong), False, function.__name__)
+        for function, wrongs in ((mixedbushes.is_mixed, MIXED[1]), (mixedbushes.are_changes, CHANGES[1])):
+            for wrong in wrongs:
+                self.assertIs(function(2, wrong), False, function.__name__)
+        for function, good in ((grafts.is_graft_row, GRAFTS[0]), (heardroads.is_heard, HEARD[0]),
+                               (heardroads.is_stock, STOCK[0]), (gardens.is_log, LOG[0])):
+            self.assertIs(function(good), True, function.__name__)
+        self.assertIs(mixedbushes.is_mixed(2, MIXED[0]), True)
+        self.assertIs(mixedbushes.are_changes(2, CHANGES[0]), True)
+
+    def test_an_error_that_comes_behind_too_many(self):
+        late = (wide(400), (("year", F), ("cut", 0)))
+        for road in ROAD[1]:
+            self.assert_raises_just(TooMany, origins.origin_of, (*late, road))
+            self.assert_raises_just(InvalidRoad, origins.origin_of, (F, (), road))
+        for wrong in LOG[1]:
+            self.assert_raises_just(InvalidLog, origins.origin_of, (wide(400), wrong, None))
+        for wrong in BUSH[1]:
+            self.assert_raises_just(InvalidBush, origins.origin_of, (wrong, late[1], None))
 
     def test_what_is_wrong_behind_an_answer_that_would_be_none(self):
         self.assert_raises_just(InvalidBush, lastyears.regrown, (F, S, ("f",)))
@@ -276,6 +397,18 @@ class ArgumentsTest(unittest.TestCase):
         self.assert_raises_just(InvalidBush, forms.unlike_form, (F, ("f",)))
         self.assert_raises_just(InvalidBush, turnings.fewest_turns, ((), ("f",)))
         self.assert_raises_just(InvalidNumber, turnedcopies.row_copies, ((), 1))
+        self.assert_raises_just(InvalidCounts, depthcuts.cut_by_depths, ((1,), (0,)))
+        self.assert_raises_just(InvalidNumber, depthcuts.depth_root, ((0, 2), 13))
+        self.assert_raises_just(InvalidGrafts, graftrows.same_grafts, (((4, ()),), ((101, ()),)))
+        self.assert_raises_just(InvalidGrafts, graftwoods.are_led, ((), ((101, ()),)))
+        self.assert_raises_just(InvalidBush, tops.lot_between, (F, ("f", F)[:1]))
+        self.assert_raises_just(InvalidMixedRow, mixedalike.grow_alike, (1, 0, (), ("s", 0), ((1,),)))
+        self.assert_raises_just(InvalidMixedRow, mixedyears.first_unlike, (1, 0, (0,), ("s", 0), (1,)))
+        self.assert_raises_just(InvalidMixed, mixedyears.first_unlike, (1, 0, (0,), 1, (1,)))
+        self.assert_raises_just(InvalidHeard, heardroads.rows_fitting, ((F,), ((("a", 0),), (("a", 6),))))
+        self.assert_raises_just(InvalidHeard, heardroads.row_fits, ((F,), (0,) * 60, (("f", 6),)))
+        self.assert_raises_just(InvalidLog, logforms.are_like_logs, ((), (("cut", 61),)))
+        self.assert_raises_just(InvalidLog, origins.spared_deeds, ((), (("year", ("f",)),)))
 
     def test_arguments_are_passed_by_position_and_all_of_them(self):
         for function, kinds in FUNCTIONS:
@@ -319,5 +452,17 @@ class ArgumentsTest(unittest.TestCase):
                     self.assert_raises_just(InvalidGrowths, function, with_wrong(goods, {at: (S, great)}))
                 if kind is BUNCH:
                     self.assert_raises_just(InvalidBunch, function, with_wrong(goods, {at: (S, great)}))
+                if kind is GRAFTS:
+                    self.assert_raises_just(InvalidGrafts, function, with_wrong(goods, {at: ((0, S), (0, great))}))
+                if kind is STOCK:
+                    self.assert_raises_just(InvalidStock, function, with_wrong(goods, {at: (S, great)}))
+                if kind is LOG:
+                    self.assert_raises_just(InvalidLog, function, with_wrong(goods, {at: (("year", great),)}))
+                if kind is MIXED:
+                    self.assert_raises_just(InvalidMixed, function, with_wrong(goods, {at: great}))
+                if kind is CHANGE:
+                    self.assert_raises_just(InvalidMixedRow, function, with_wrong(goods, {at: (0, great)}))
+                if kind is CHANGES:
+                    self.assert_raises_just(InvalidMixedRow, function, with_wrong(goods, {at: ((great, 0),)}))
                 if kind in (LONG, YEAR):
                     self.assert_raises_just(InvalidLongRow, function, with_wrong(goods, {at: ((S, 1), (great, 1))}))

@@ -13,7 +13,7 @@ TREES = {path.stem: ast.parse(path.read_text(encoding="utf-8")) for path in FILE
 
 STATEMENTS = (
     ast.Module, ast.FunctionDef, ast.ClassDef, ast.Import, ast.ImportFrom, ast.Assign, ast.AugAssign, ast.If, ast.While,
-    ast.For, ast.Return, ast.Break, ast.Continue, ast.Pass, ast.Raise, ast.Assert, ast.Delete, ast.Expr,
+    ast.For, ast.Return, ast.Break, ast.Continue, ast.Pass, ast.Raise, ast.Assert, ast.Delete, ast.Expr, ast.Try,
 )
 VALUES = (
     ast.Constant, ast.Name, ast.Attribute, ast.Subscript, ast.Slice, ast.Call, ast.Starred, ast.List, ast.Tuple,
@@ -21,7 +21,7 @@ VALUES = (
     ast.FormattedValue,
 )
 BUILTINS = """len range enumerate zip min max sum abs sorted reversed int str bool list tuple dict isinstance ord
-    repr any all divmod super Exception ValueError KeyError IndexError""".split()
+    repr any all divmod set super property Exception ValueError KeyError IndexError""".split()
 METHODS = """append clear copy count endswith extend find get index insert isalnum isalpha isdigit islower isspace
     isupper items join keys ljust lower lstrip partition pop remove replace reverse rfind rjust rpartition rsplit rstrip
     setdefault split splitlines startswith strip update upper values zfill bit_length __init__""".split()
@@ -62,7 +62,25 @@ INTERFACE = {
     "turnings": "own_mirror_row fewest_turns",
     "roadwords": "words_of road_letters_of depths_of",
     "roadsapart": "word_apart letters_apart depth_apart",
+    "depthbushes": "can_have_depths fewest_by_depths bush_by_depths",
+    "wordbushes": "can_have_words fewest_by_words bush_by_words",
+    "depthcuts": "cut_by_depths depth_root tips_after",
+    "grafts": "is_graft_row grafted need_of lot_of",
+    "graftrows": "same_grafts apart_bush can_swap led_past",
+    "graftwoods": "wood_of count_led are_led first_root",
+    "tops": "count_knot_rows is_top lot_between count_tops common_top joined_tops clash_road",
+    "mixedbushes": "is_mixed are_changes mixed_grown mixed_tips mixed_tip",
+    "mixedalike": "grow_alike mixed_unlike",
+    "mixedyears": "lots_of_years first_unlike tips_in_year undoing_change",
+    "heardroads": "is_heard is_stock heard_of row_fits first_fitting count_fitting heard_so_far rows_fitting",
+    "doubleroads": "each_road_tells double_road",
+    "gardens": "is_log tended tended_on",
+    "logforms": "log_form are_like_logs",
+    "origins": "origin_of spared_deeds",
+    "gardeners": "Gardener",
 }
+GARDENER = "year mirror rename cut undo redo attempt log standing __init__ __eq__ __len__"
+DOUBLE_UNDERSCORES = ["__init__", "__eq__", "__len__"]
 
 
 def nodes(kinds, tree=None):
@@ -110,6 +128,11 @@ class FilesTest(unittest.TestCase):
             for word in listed.split():
                 self.assertIn(word, found, name)
 
+    def test_the_methods_of_the_interface_are_defined_in_the_class_itself(self):
+        [gardener] = [node for _, node in nodes(ast.ClassDef, TREES["gardeners"])]
+        found = [node.name for node in gardener.body if isinstance(node, ast.FunctionDef)]
+        self.assertEqual(sorted(found), sorted(GARDENER.split() + ["_do"]))
+
 
 class ImportsTest(unittest.TestCase):
     def test_imports_name_the_file_that_defines_the_name(self):
@@ -152,13 +175,31 @@ class CodeTest(unittest.TestCase):
             self.assertIsInstance(node, STATEMENTS + VALUES, (name, node.lineno))
         self.assertEqual(nodes((ast.Div, ast.MatMult)), [])
         for name, node in nodes((ast.FunctionDef, ast.ClassDef)):
-            self.assertEqual(node.decorator_list, [], name)
+            told = [getattr(found, "id", None) for found in node.decorator_list]
+            self.assertEqual(told, ["property"] if node.name in ("log", "standing") else [], name)
+
+    def test_sets_stand_in_sorted_alone(self):
+        for name, tree in TREES.items():
+            held = [argument for _, call in nodes(ast.Call, tree) for argument in call.args
+                    if getattr(call.func, "id", None) == "sorted"]
+            for _, call in nodes(ast.Call, tree):
+                if getattr(call.func, "id", None) == "set":
+                    self.assertIn(call, held, (name, call.lineno))
+
+    def test_what_a_try_does_at_last_is_plain(self):
+        for name, node in nodes(ast.Try):
+            self.assertEqual((node.handlers, node.orelse), ([], []), name)
+            [choice] = node.finalbody
+            self.assertRegex(ast.unparse(choice.test), r"^\w+ is None$", name)
+            self.assertEqual(choice.orelse, [], name)
+            for row in choice.body:
+                self.assertRegex(ast.unparse(row), r"^self\.\w+ = \w+$", name)
 
     def test_names(self):
         for name, tree in TREES.items():
             for word in bound_names(tree):
-                self.assertFalse(hasattr(builtins, word) and word != "__init__", (name, word))
-                self.assertRegex(word, r"^(_|_?[A-Za-z][A-Za-z0-9_]*|__init__)$", name)
+                self.assertFalse(hasattr(builtins, word) and word not in DOUBLE_UNDERSCORES, (name, word))
+                self.assertRegex(word, r"^(_|_?[A-Za-z][A-Za-z0-9_]*|__(init|eq|len)__)$", name)
             read = [node.id for _, node in nodes(ast.Name, tree) if isinstance(node.ctx, ast.Load)]
             self.assertNotIn("_", read, name)
             for word in read:
@@ -170,7 +211,7 @@ class CodeTest(unittest.TestCase):
         stored = [node.attr for _, node in nodes(ast.Attribute) if isinstance(node.ctx, ast.Store)]
         for name, holder in nodes(ast.ClassDef):
             for node in holder.body:
-                if isinstance(node, ast.FunctionDef) and node.name != "__init__":
+                if isinstance(node, ast.FunctionDef) and node.name not in DOUBLE_UNDERSCORES:
                     self.assertNotIn(node.name, plain + stored, name)
         for name, node in nodes(ast.Attribute):
             if isinstance(node.ctx, ast.Store):

@@ -129,6 +129,18 @@ def number_part(part, numbers):
     return numbers.setdefault(key, len(numbers))
 
 
+def way_back(steps, at):
+    """Return the tuple of the steps that lead to an index of a list, from the index 0 on.
+
+    The list has, at each index but 0, the index from which a step leads there, and this step.
+    """
+    found = []
+    while at > 0:
+        at, step = steps[at]
+        found.append(step)
+    return tuple(reversed(found))
+
+
 def least_too_long():
     """Return the least integer that has more than 4000 digits."""
     number = 1

@@ -66,7 +66,7 @@ def row_letters(growths):
     return {_unpacked(number): many for number, many in found.items()}
 
 
-def _product(counts, mates):
+def product_of(counts, mates):
     """Return the product of two lists of integers."""
     found = [0] * (len(counts) + len(mates) - 1)
     for at, many in enumerate(counts):
@@ -79,7 +79,7 @@ def row_depths(growths):
     """Return the list of how many tips of the bush of a row stand at each depth, up to its height."""
     found = [1]
     for growth in growths:
-        found = _product(found, [level.count(()) for level in levels_of(growth)])
+        found = product_of(found, [level.count(()) for level in levels_of(growth)])
     return found
 
 
