@@ -210,6 +210,10 @@ class ErrorsTest(unittest.TestCase):
         self.assertEqual(raised_by(Gardener(wide(400)).year, F).limit, 400)
         self.assertEqual(raised_by(Gardener(chain(60)).year, S).limit, 60)
         self.assertEqual(raised_by(Gardener(("f", chain(59), wide(330))).year, S).limit, 400)
+        self.assertIsNone(raised_by(Gardener(S).year, wide(399)))
+        self.assertEqual(raised_by(Gardener(S).year, wide(400)).limit, 400)
+        self.assertIsNone(raised_by(Gardener(chain(23)).year, chain(37)))
+        self.assertEqual(raised_by(Gardener(chain(24)).year, chain(37)).limit, 60)
         self.assertEqual(raised_by(Gardener(doubled(7)).year, doubled(1)).limit, 400)
 
     def test_an_error_changes_nothing(self):

@@ -4,7 +4,6 @@ import random
 import unittest
 
 from tests.samples import D, F, NO_DEEDS, NO_LOGS, ODD_VALUES, S, W, chain, count_parts, depth_of, raised_by, small_bushes, wide
-from tipwoods.bushes import is_bush
 from tipwoods.errors import InvalidBush, InvalidLog, TooMany
 from tipwoods.gardens import is_log, tended, tended_on
 
@@ -97,9 +96,13 @@ class TendedTest(unittest.TestCase):
         for log in ((("year", S),), (("year", S), ("cut", 0)), (("mirror",), ("year", S), ("cut", 60))):
             for function in (tended, tended_on):
                 self.assertEqual(raised_by(function, chain(60), log).limit, 60)
+        # One knot above 399 parts, and above 400; 60 indices, and 61.
+        for function in (tended, tended_on):
+            self.assertIsNone(raised_by(function, S, (("year", wide(399)),)))
+            self.assertEqual(raised_by(function, S, (("year", wide(400)),)).limit, 400)
+            self.assertIsNone(raised_by(function, chain(23), (("year", chain(37)),)))
+            self.assertEqual(raised_by(function, chain(24), (("year", chain(37)),)).limit, 60)
         # Too many parts, and too deep at once; and what comes first of both.
-        both = ("f", chain(60), wide(330))
-        self.assertIs(is_bush(both), False)
         both = ("f", chain(59), wide(330))
         self.assertEqual(raised_by(tended, both, (("year", S),)).limit, 400)
         self.assertEqual(raised_by(tended, chain(60), (("year", S), ("year", wide(400)))).limit, 60)

@@ -119,6 +119,11 @@ class FormTest(unittest.TestCase):
         deep = (("year", chain(60)), ("year", S), ("cut", 60))
         self.assertEqual(raised_by(log_form, deep).limit, 60)
         self.assertEqual([raised_by(are_like_logs, *pair).limit for pair in ((log, deep), (deep, log))], [400, 60])
+        # One knot above 399 parts, and above 400; 60 indices, and 61.
+        self.assertIsNone(raised_by(log_form, (("year", S), ("year", wide(399)))))
+        self.assertEqual(raised_by(log_form, (("year", S), ("year", wide(400)))).limit, 400)
+        self.assertIsNone(raised_by(log_form, (("year", chain(23)), ("year", chain(37)))))
+        self.assertEqual(raised_by(log_form, (("year", chain(24)), ("year", chain(37)))).limit, 60)
         # At the depth 0, the cut comes in time; at the depth 30 it cuts all, too, but at once.
         self.assertIsNone(raised_by(log_form, (("year", chain(60)), ("cut", 30), ("year", chain(30)))))
         self.assertEqual(raised_by(log_form, (("year", chain(60)), ("cut", 30), ("year", chain(31)))).limit, 60)

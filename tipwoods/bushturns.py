@@ -44,19 +44,19 @@ def check_names(value):
         raise InvalidNames("no string of all 26 letters, each once")
 
 
-def _rename(bush, table):
-    """Return a bush with, instead of each letter, the one that a dict gives for it."""
+def renamed_by(bush, table):
+    """Return a bush with, instead of each letter that is in a dict, the one that it gives for it."""
     if not bush:
         return bush
-    branches = [_rename(branch, table) for branch in bush[1:]]
-    return (table[bush[0]], *branches)
+    branches = [renamed_by(branch, table) for branch in bush[1:]]
+    return (table.get(bush[0], bush[0]), *branches)
 
 
 def renamed_bush(bush, names):
     """Return the bush renamed by names."""
     check_bush(bush)
     check_names(names)
-    return _rename(bush, dict(zip(ALPHABET, names)))
+    return renamed_by(bush, dict(zip(ALPHABET, names)))
 
 
 def _plain(bush):
@@ -65,7 +65,7 @@ def _plain(bush):
     for sign in text_of(bush):
         if is_letter(sign) and sign not in table:
             table[sign] = ALPHABET[len(table)]
-    return _rename(bush, table)
+    return renamed_by(bush, table)
 
 
 def plain_bush(bush):

@@ -2,7 +2,7 @@
 
 from tipwoods.basics import MOST_DEPTH, grow, is_letter, is_number
 from tipwoods.bushes import check_bush, is_bush
-from tipwoods.bushturns import mirror_of
+from tipwoods.bushturns import mirror_of, renamed_by
 from tipwoods.errors import InvalidLog
 from tipwoods.growing import check_room
 
@@ -40,14 +40,6 @@ def check_log(value):
         raise InvalidLog("no log")
 
 
-def _renamed(bush, letter, other_letter):
-    """Return a bush with another letter in all knots that have a letter."""
-    if not bush:
-        return bush
-    first = other_letter if bush[0] == letter else bush[0]
-    return (first, *[_renamed(branch, letter, other_letter) for branch in bush[1:]])
-
-
 def _cut_off(bush, depth):
     """Return a bush in which each part at a depth is the tip."""
     if not bush or depth == 0:
@@ -63,7 +55,7 @@ def do_deed(bush, deed):
     if deed[0] == "mirror":
         return mirror_of(bush)
     if deed[0] == "rename":
-        return _renamed(bush, deed[1], deed[2])
+        return renamed_by(bush, {deed[1]: deed[2]})
     return _cut_off(bush, deed[1])
 
 

@@ -8,6 +8,9 @@ MOST_IN_STOCK = 6
 MOST_STOCK_PARTS = 40
 MOST_HEARDS = 6
 MOST_ROWS = 1000
+# A row that fits has at most 60 growths, so that these bits have room for each length, and one to spare.
+LENGTH_BITS = 64
+LENGTHS = (1 << 64) - 1
 
 
 def _is_step(value):
@@ -158,30 +161,59 @@ def heard_so_far(stock, heard):
     return max(list(reached))
 
 
-def _lengths_together(ways, mates):
-    """Return the table of how many growths lead to the ends of two heard roads at once.
+def _leaps(ways):
+    """Return the list, for each growth, of the pairs of by how many steps it leads on, and of the places where it does.
 
-    It has, for each number of steps that are gone of the one, and of the other
-    one, the integer that has the bit n if some n growths lead through the rest of both.
+    The places are one integer, in which all bits for the lengths of rows are set
+    at each number of steps that are gone there.
     """
-    found = [[0] * len(mates[0]) for _ in ways[0]]
-    found[-1][-1] = 1
+    leaps = []
+    for behind in ways:
+        places = {}
+        for gone, further in enumerate(behind):
+            if further >= 0:
+                steps = further - gone
+                places[steps] = places.get(steps, 0) + (LENGTHS << (LENGTH_BITS * gone))
+        leaps.append(list(places.items()))
+    return leaps
+
+
+def _led_on(lengths, leaps):
+    """Return the lengths, for all numbers of steps at once, of the rows with a growth ahead of those that are told."""
+    found = 0
+    for steps, places in leaps:
+        # A growth more makes each length greater by one, which is the next bit.
+        found |= (lengths >> (LENGTH_BITS * steps - 1)) & places
+    return found
+
+
+def _lengths_together(first, second, third):
+    """Return the table of how many growths lead to the ends of three heard roads at once.
+
+    It has, for each number of steps that are gone of the first one, and of the
+    second one, the integer in which, for each number of those of the third one,
+    the bit n is set if some n growths lead through the rest of all three.
+    """
+    leaps = _leaps(third)
+    found = [[0] * len(second[0]) for _ in first[0]]
+    found[-1][-1] = 1 << (LENGTH_BITS * (len(third[0]) - 1))
     for gone in reversed(range(len(found))):
         for other in reversed(range(len(found[gone]))):
-            for behind, mate in zip(ways, mates):
-                if behind[gone] >= 0 and mate[other] >= 0:
-                    found[gone][other] |= found[behind[gone]][mate[other]] << 1
+            for index, behind in enumerate(first):
+                if behind[gone] >= 0 and second[index][other] >= 0:
+                    lengths = found[behind[gone]][second[index][other]]
+                    found[gone][other] |= _led_on(lengths, leaps[index])
     return found
 
 
 def _may_end(gone, tables):
-    """Return whether, as far as each two of some heard roads tell, rows lead through the rest of all of them.
+    """Return whether, as far as each three of some heard roads tell, rows lead through the rest of all of them.
 
     It is told of each one how many steps are gone.
     """
-    lengths = -1
-    for first, second, table in tables:
-        lengths &= table[gone[first]][gone[second]]
+    lengths = LENGTHS
+    for first, second, third, table in tables:
+        lengths &= table[gone[first]][gone[second]] >> (LENGTH_BITS * gone[third])
         if lengths == 0:
             return False
     return True
@@ -190,8 +222,9 @@ def _may_end(gone, tables):
 def _add_rows(maze, gone, row, rows, dead):
     """Add to a list all rows that begin with a row, behind which so many steps are gone of each heard road.
 
-    The maze is the list of the ways by growths, and what _may_end asks for.
-    Where no row goes on is noted as dead.
+    The maze has the list, for each growth, of its ways through all heard roads,
+    the tables for each three of these, and their lengths. Where no row goes on is
+    noted as dead.
     """
     ways, tables, ends = maze
     if gone == ends:
@@ -200,12 +233,26 @@ def _add_rows(maze, gone, row, rows, dead):
             raise TooMany(MOST_ROWS)
         return
     many = len(rows)
-    for index, behind in enumerate(ways):
-        further = tuple([way[steps] for way, steps in zip(behind, gone)])
-        if -1 not in further and further not in dead and _may_end(further, tables):
-            _add_rows(maze, further, (*row, index), rows, dead)
+    if _may_end(gone, tables):
+        for index, behind in enumerate(ways):
+            further = tuple([way[steps] for way, steps in zip(behind, gone)])
+            if -1 not in further and further not in dead:
+                _add_rows(maze, further, (*row, index), rows, dead)
     if len(rows) == many:
         dead[gone] = True
+
+
+def _maze_of(stock, heards):
+    """Return the maze of some heard roads, as _add_rows asks for it."""
+    through = [_ways_through(stock, heard) for heard in heards]
+    tables = []
+    for third in range(len(heards)):
+        for second in range(third):
+            for first in range(second):
+                table = _lengths_together(through[first], through[second], through[third])
+                tables.append((first, second, third, table))
+    ways = [[behind[index] for behind in through] for index in range(len(stock))]
+    return ways, tables, tuple([len(heard) for heard in heards])
 
 
 def rows_fitting(stock, heards):
@@ -213,15 +260,9 @@ def rows_fitting(stock, heards):
     check_stock(stock)
     _check_heards(heards)
     unlike = sorted(set(heards))
-    through = [_ways_through(stock, heard) for heard in unlike]
-    tables = []
-    for second, mates in enumerate(through):
-        for first in range(max(second, 1)):
-            tables.append((first, second, _lengths_together(through[first], mates)))
-    ways = [[ways[index] for ways in through] for index in range(len(stock))]
-    ends = tuple([len(heard) for heard in unlike])
+    # Fewer than three are told as three, some of them twice.
+    while len(unlike) < 3:
+        unlike.append(unlike[0])
     rows = []
-    start = (0,) * len(unlike)
-    if _may_end(start, tables):
-        _add_rows((ways, tables, ends), start, (), rows, {})
+    _add_rows(_maze_of(stock, unlike), (0,) * len(unlike), (), rows, {})
     return rows

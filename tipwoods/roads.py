@@ -22,6 +22,23 @@ def roads_to_tips(bush):
     return sorted([road for road, part in roads_and_parts(bush) if not part])
 
 
+def least_road_where(differ, bush, other):
+    """Return the least road at which a function is true of the parts of two bushes, None if there is none.
+
+    It is true where both parts are knots with unlike numbers of branches.
+    """
+    level = [((), bush, other)]
+    while level:
+        below = []
+        for road, part, mate in level:
+            if differ(part, mate):
+                return road
+            for index, branches in enumerate(zip(part[1:], mate[1:])):
+                below.append(((*road, index), *branches))
+        level = below
+    return None
+
+
 def part_at(bush, road):
     """Return the part to which a road leads."""
     check_bush(bush)
@@ -54,13 +71,4 @@ def unlike_road(bush, other):
     """Return the least road at which two bushes are unlike, None if they are equal."""
     check_bush(bush)
     check_bush(other)
-    level = [((), bush, other)]
-    while level:
-        below = []
-        for road, part, mate in level:
-            if are_unlike_roots(part, mate):
-                return road
-            for index in range(len(part) - 1):
-                below.append(((*road, index), part[index + 1], mate[index + 1]))
-        level = below
-    return None
+    return least_road_where(are_unlike_roots, bush, other)

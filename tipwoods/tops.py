@@ -4,6 +4,7 @@ from math import factorial
 
 from tipwoods.basics import are_unlike_roots, counts_of, parts_of
 from tipwoods.bushes import check_bush
+from tipwoods.roads import least_road_where
 
 
 def count_knot_rows(bush):
@@ -79,19 +80,9 @@ def common_top(bush, other):
     return _common(bush, other)
 
 
-def _clash(bush, other):
-    """Return the least road at which two bushes clash, None if there is none."""
-    level = [((), bush, other)]
-    while level:
-        below = []
-        for road, part, mate in level:
-            if part and mate:
-                if are_unlike_roots(part, mate):
-                    return road
-                for index in range(len(part) - 1):
-                    below.append(((*road, index), part[index + 1], mate[index + 1]))
-        level = below
-    return None
+def _clash(part, mate):
+    """Return whether two parts are knots that are unlike at their own roots."""
+    return part != () and mate != () and are_unlike_roots(part, mate)
 
 
 def _joined(bush, other):
@@ -105,7 +96,7 @@ def joined_tops(bush, other):
     """Return the least bush of which two bushes are tops, None if they clash."""
     check_bush(bush)
     check_bush(other)
-    if _clash(bush, other) is not None:
+    if least_road_where(_clash, bush, other) is not None:
         return None
     return _joined(bush, other)
 
@@ -114,4 +105,4 @@ def clash_road(bush, other):
     """Return the least road at which two bushes clash, None if there is none."""
     check_bush(bush)
     check_bush(other)
-    return _clash(bush, other)
+    return least_road_where(_clash, bush, other)
