@@ -156,6 +156,15 @@ class GrownTest(unittest.TestCase):
         # The deepest tip is of a sort that does not grow.
         self.assertEqual(depth_of(tips_as_bush(mixed_grown(2, ("f", chain(59, "s", 1), 0), ((("s", 1), 1),)))), 60)
         self.assertEqual(raised_by(mixed_grown, 2, ("f", chain(59, "s", 1), 0), ((0, ("s", 0)),)).limit, 60)
+        # A tip alone is at the depth 0, and one that only changes its sort stays where it is.
+        self.assertEqual(mixed_grown(1, 0, ((chain(60, "s", 0),),)), chain(60, "s", 0))
+        self.assertEqual(raised_by(mixed_grown, 1, 0, ((chain(60, "s", 0),), (("s", 0),))).limit, 60)
+        self.assertEqual(raised_by(mixed_grown, 2, chain(60, "s", 0), ((1, 0), (0, ("s", 1)))).limit, 60)
+        # The sort 1 grows far, but does not come; and it comes late.
+        far = (0, chain(60, "s", 1))
+        self.assertEqual(mixed_grown(2, 0, (far,) * 12), 0)
+        self.assertEqual(mixed_grown(2, ("f", 0), (far, far, (1, 0), (0, chain(59, "s", 1)))), ("f", chain(59, "s", 1)))
+        self.assertEqual(raised_by(mixed_grown, 2, ("f", 0), (far, far, (1, 0), far)).limit, 60)
         # Parts go ahead of depth, whichever year is the first with either.
         wider = ("f", chain(59, "s", 1), 0)
         row = ((0, ("s", 0)), (tips_as(wide(400), 0), 1))
