@@ -78,7 +78,8 @@ class DepthsTest(unittest.TestCase):
         chance = random.Random(3)
         for _ in range(3000):
             size = chance.choice((1, 2, 3, 5, 9, 30, 61))
-            counts = [chance.choice((0, 0, 1, 2, 5, 6)) * 6 ** chance.randrange(max(1, min(at, 23))) for at in range(size)]
+            counts = [chance.choice((0, 0, 1, 2, 5, 6)) * 6 ** chance.randrange(max(1, min(at, 23)))
+                      for at in range(size)]
             counts = tuple(min(many, 10 ** 18) for many in counts[:-1]) + (max(1, min(counts[-1], 10 ** 18)),)
             share = sum(fractions.Fraction(many, 6 ** depth) for depth, many in enumerate(counts))
             self.assertIs(can_have_depths(counts), share <= 1, counts)
@@ -90,7 +91,8 @@ class DepthsTest(unittest.TestCase):
             full_depth = min(6 ** height, 10 ** 18)
             counts = (0,) * height + (full_depth,)
             self.assertIs(can_have_depths(counts), True)
-            self.assertIs(can_have_depths((0,) * height + (min(6 ** height + 1, 10 ** 18),)), 6 ** height + 1 > 10 ** 18)
+            self.assertIs(can_have_depths((0,) * height + (min(6 ** height + 1, 10 ** 18),)),
+                          6 ** height + 1 > 10 ** 18)
             if height > 1 and 6 ** height <= 10 ** 18:
                 split = (0,) * (height - 1) + (1, 6 ** height - 6)
                 self.assertIs(can_have_depths(split), True)

@@ -61,13 +61,15 @@ class DoubleTest(unittest.TestCase):
             found = double_road(stock)
             if found is not None:
                 self.assertGreater(count_fitting(stock, found), 1)
-                self.assertEqual([count_fitting(stock, found[:size]) > 1 for size in range(len(found))], [False] * len(found))
+                self.assertEqual([count_fitting(stock, found[:size]) > 1 for size in range(len(found))],
+                                 [False] * len(found))
 
     def test_one_growth_tells(self):
         for growth in [bush for bush in small_bushes(3) if bush] + [wide(40), chain(39)]:
             self.assertIs(each_road_tells((growth,)), True)
             self.assertIsNone(double_road((growth,)))
-            self.assertEqual(double_road((growth, growth)), min(heard_of(growth), key=lambda heard: (len(heard), heard)))
+            self.assertEqual(double_road((growth, growth)),
+                             min(heard_of(growth), key=lambda heard: (len(heard), heard)))
 
     def test_powers_and_chains(self):
         self.assertEqual(double_road((chain(2), chain(3))), (("s", 0),) * 5)
@@ -76,7 +78,8 @@ class DoubleTest(unittest.TestCase):
         self.assertEqual(double_road((chain(39), chain(38))), (("s", 0),) * 77)
         self.assertIsNone(double_road((chain(3), chain(3, "t"))))
         self.assertEqual(double_road((chain(3), chain(3, "t"), chain(2, "s", chain(2, "t")))), None)
-        self.assertEqual(double_road((chain(2), chain(2, "t"), chain(1, "s", chain(1, "t")), chain(1, "s", chain(2, "t")),
+        self.assertEqual(double_road((chain(2), chain(2, "t"), chain(1, "s", chain(1, "t")),
+                                      chain(1, "s", chain(2, "t")),
                                       chain(1, "t", S))), tuple((letter, 0) for letter in "sttstt"))
 
     def test_rows_that_come_together_late(self):
@@ -102,7 +105,8 @@ class DoubleTest(unittest.TestCase):
         self.assertEqual(found, (("a", 0),) + (("b", 0),) * 11)
         stock = (chain(1, "a", chain(11, "b")), chain(1, "a", chain(6, "b")), chain(2, "b"))
         self.assertIsNone(double_road(stock))
-        stock = (chain(1, "a", chain(11, "b")), chain(1, "a", chain(6, "b")), chain(7, "b"), chain(3, "b"), chain(19, "c"))
+        stock = (chain(1, "a", chain(11, "b")), chain(1, "a", chain(6, "b")), chain(7, "b"), chain(3, "b"),
+                 chain(19, "c"))
         self.assertEqual(double_road(stock), least_double(stock, 22))
 
     def test_wrong_stocks(self):

@@ -54,5 +54,6 @@ class ExamplesTest(unittest.TestCase):
         self.assertEqual(told, 68)
 
     def test_each_point_has_one(self):
-        told = {int(number) for number in re.findall(r"^## \[(\d+)\]", EXAMPLES.read_text(encoding="utf-8"), re.MULTILINE)}
+        told = {int(number)
+                for number in re.findall(r"^## \[(\d+)\]", EXAMPLES.read_text(encoding="utf-8"), re.MULTILINE)}
         self.assertEqual(told, set(range(40, 85)))

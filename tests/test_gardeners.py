@@ -11,7 +11,8 @@ from tipwoods.errors import (
 from tipwoods.gardeners import Gardener
 from tipwoods.gardens import is_log, tended, tended_on
 
-NO_LETTERS = [None, 0, "", "A", "ab", "{", "`", " ", "1", ("a",), ["a"], True, F, 10 ** 119, "a\n", "x" * 4000, *ODD_VALUES]
+NO_LETTERS = [None, 0, "", "A", "ab", "{", "`", " ", "1", ("a",), ["a"], True, F, 10 ** 119, "a\n", "x" * 4000,
+              *ODD_VALUES]
 NO_LETTERS = [value for value in NO_LETTERS if not (isinstance(value, str) and len(value) == 1 and value.islower())]
 NO_DEPTHS = [None, True, False, -1, 61, "1", (), (1,), [1], F, 10 ** 119, -10 ** 119, *ODD_VALUES]
 
@@ -82,7 +83,8 @@ class GardenerTest(unittest.TestCase):
     def test_example(self):
         a = Gardener(S)
         self.assertEqual(
-            [a.year(F), a.rename("s", "q"), a.standing, a.undo(), a.standing, a.redo(), a.cut(1), a.standing, len(a), a.log[2],
+            [a.year(F), a.rename("s", "q"), a.standing, a.undo(), a.standing, a.redo(), a.cut(1), a.standing, len(a),
+             a.log[2],
              a == Gardener(F)],
             [None, None, ("q", ("f", (), ())), None, ("s", ("f", (), ())), None, None, ("q", ()), 3, ("cut", 1), False],
         )
@@ -148,7 +150,8 @@ class GardenerTest(unittest.TestCase):
     def test_each_method_returns_none_and_each_deed_stands_in_the_log(self):
         gardener = Gardener(W)
         self.assertEqual([gardener.log, gardener.standing, len(gardener)], [(), W, 0])
-        self.assertEqual([gardener.year(S), gardener.mirror(), gardener.rename("f", "f"), gardener.cut(0), gardener.undo(),
+        self.assertEqual([gardener.year(S), gardener.mirror(), gardener.rename("f", "f"), gardener.cut(0),
+                          gardener.undo(),
                           gardener.redo()], [None] * 6)
         self.assertEqual(gardener.log, (("year", S), ("mirror",), ("rename", "f", "f"), ("cut", 0)))
         self.assertEqual(gardener.standing, ())
@@ -156,7 +159,8 @@ class GardenerTest(unittest.TestCase):
         while len(gardener):
             found.append(gardener.standing)
             gardener.undo()
-        self.assertEqual([*found, gardener.standing], tended_on(W, (("year", S), ("mirror",), ("rename", "f", "f"), ("cut", 0)))[::-1])
+        self.assertEqual([*found, gardener.standing],
+                         tended_on(W, (("year", S), ("mirror",), ("rename", "f", "f"), ("cut", 0)))[::-1])
 
     def test_wrong_bushes(self):
         for wrong in NO_BUSHES + ODD_VALUES:
@@ -184,7 +188,8 @@ class ErrorsTest(unittest.TestCase):
             for wrong in NO_DEPTHS:
                 self.assertIs(type(raised_by(gardener.cut, wrong)), InvalidDepth, wrong)
             self.assertEqual(gardener.log, log)
-        for method, arguments in (("year", ()), ("mirror", (1,)), ("rename", ("a",)), ("cut", ()), ("undo", (1,)), ("redo", (1,))):
+        for method, arguments in (("year", ()), ("mirror", (1,)), ("rename", ("a",)), ("cut", ()), ("undo", (1,)),
+                                  ("redo", (1,))):
             self.assertRaises(TypeError, getattr(Gardener(F), method), *arguments)
 
     def test_twenty_deeds_and_one_more(self):
@@ -242,7 +247,8 @@ class AttemptTest(unittest.TestCase):
                 gardener.mirror()
                 raise error
             return action
-        for error in (Odd(), ValueError("x"), KeyError(1), KeyboardInterrupt(), SystemExit(2), GeneratorExit(), StopIteration(1),
+        for error in (Odd(), ValueError("x"), KeyError(1), KeyboardInterrupt(), SystemExit(2), GeneratorExit(),
+                      StopIteration(1),
                       RecursionError(), TooMany(7), NothingToUndo(), AssertionError()):
             gardener = Gardener(F)
             gardener.cut(1)
@@ -316,7 +322,8 @@ class EqualityTest(unittest.TestCase):
         gardener = self.made(F, ("mirror",))
         self.assertTrue(gardener == self.made(F, ("mirror",)))
         self.assertFalse(gardener != self.made(F, ("mirror",)))
-        for other in (self.made(F), self.made(F, ("mirror",), ("mirror",)), self.made(W, ("mirror",)), self.made(F, ("cut", 1)),
+        for other in (self.made(F), self.made(F, ("mirror",), ("mirror",)), self.made(W, ("mirror",)),
+                      self.made(F, ("cut", 1)),
                       self.made(("f", (), ()), ("year", ()))):
             self.assertFalse(gardener == other)
             self.assertTrue(gardener != other)

@@ -3,12 +3,15 @@
 import random
 import unittest
 
-from tests.samples import D, F, NO_DEEDS, NO_LOGS, ODD_VALUES, S, W, chain, count_parts, depth_of, raised_by, small_bushes, wide
+from tests.samples import (
+    D, F, NO_DEEDS, NO_LOGS, ODD_VALUES, S, W, chain, count_parts, depth_of, raised_by, small_bushes, wide,
+)
 from tipwoods.errors import InvalidBush, InvalidLog, TooMany
 from tipwoods.gardens import is_log, tended, tended_on
 
 Y = (("year", F), ("rename", "f", "g"), ("mirror",), ("year", S), ("cut", 2))
-DEEDS = [("year", F), ("year", S), ("year", ()), ("year", ("f", S, ())), ("mirror",), ("rename", "f", "s"), ("rename", "s", "t"),
+DEEDS = [("year", F), ("year", S), ("year", ()), ("year", ("f", S, ())), ("mirror",), ("rename", "f", "s"),
+         ("rename", "s", "t"),
          ("rename", "s", "s"), ("cut", 0), ("cut", 1), ("cut", 2), ("cut", 3)]
 BUSHES = small_bushes(2) + [F, S, W, D, ("f", F, S), ("f", S, ("s", F), W), chain(5, "f", D)]
 
@@ -38,7 +41,8 @@ def logs_by_chance(seed, many, most, deeds=tuple(DEEDS)):
 
 class LogTest(unittest.TestCase):
     def test_what_a_log_is(self):
-        for right in ((), Y, *[(deed,) for deed in DEEDS], (("cut", 60),), (("mirror",),) * 20, (("year", wide(400)),) * 20,
+        for right in ((), Y, *[(deed,) for deed in DEEDS], (("cut", 60),), (("mirror",),) * 20,
+                      (("year", wide(400)),) * 20,
                       (("year", chain(60)),), (("rename", "a", "z"), ("rename", "z", "a"))):
             self.assertIs(is_log(right), True)
         for wrong in NO_LOGS + ODD_VALUES + [(deed,) for deed in ODD_VALUES]:
@@ -72,7 +76,8 @@ class TendedTest(unittest.TestCase):
         self.assertEqual(tended(bush, (("rename", "s", "s"),)), bush)
         self.assertEqual(tended(bush, (("rename", "q", "f"),)), bush)
         # Both letters become one, and stay so.
-        self.assertEqual(tended(bush, (("rename", "s", "f"), ("rename", "f", "s"))), ("s", ("s", ()), ("s", ("s", (), ()))))
+        self.assertEqual(tended(bush, (("rename", "s", "f"), ("rename", "f", "s"))),
+                         ("s", ("s", ()), ("s", ("s", (), ()))))
         self.assertEqual([tended(bush, (("cut", depth),)) for depth in range(5)],
                          [(), ("f", (), ()), ("f", S, S), bush, bush])
         self.assertEqual([tended((), (deed,)) for deed in DEEDS[:5]], [F, S, (), ("f", S, ()), ()])

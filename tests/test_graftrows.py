@@ -18,7 +18,8 @@ def flat(tips):
 
 
 FLAT = [flat(tips) for tips in range(1, 14)]
-PAIRS = [((number, part), (other, mate)) for number, part, other, mate in itertools.product(range(5), PIECES, range(5), PIECES)]
+PAIRS = [((number, part), (other, mate))
+         for number, part, other, mate in itertools.product(range(5), PIECES, range(5), PIECES)]
 
 
 def plain_same(grafts, others):
@@ -43,7 +44,8 @@ def marked_order(grafts, tips=120):
 class SameTest(unittest.TestCase):
     def test_examples(self):
         self.assertEqual([
-            same_grafts(G, ((1, ("v", ("s", ()), ())),)), same_grafts((), ((1, ()),)), can_swap(((0, ("s", ())), (3, V)), 0),
+            same_grafts(G, ((1, ("v", ("s", ()), ())),)), same_grafts((), ((1, ()),)),
+            can_swap(((0, ("s", ())), (3, V)), 0),
             can_swap(((0, V), (3, ())), 0),
         ], [True, False, True, False])
         self.assertEqual([
@@ -60,7 +62,8 @@ class SameTest(unittest.TestCase):
                 self.assertIs((need_of(grafts), lot_of(grafts)) == (need_of(others), lot_of(others)), same)
 
     def test_apart(self):
-        rows = rows_by_chance(5, 80, 5, 3) + [(), ((0, ()),), ((100, ()),), ((100, S),), ((99, V), (100, ())), ((0, wide(400)),)]
+        rows = rows_by_chance(5, 80, 5, 3) + [(), ((0, ()),), ((100, ()),), ((100, S),), ((99, V), (100, ())),
+                                              ((0, wide(400)),)]
         for grafts in rows:
             for others in rows:
                 bush = apart_bush(grafts, others)
@@ -131,14 +134,15 @@ class LedTest(unittest.TestCase):
         # Numbers above 100 come of numbers that are let.
         self.assertEqual(led_past(((100, S), (0, V)), 0), ((0, V), (101, S)))
         great = wide(390)
-        self.assertEqual(led_past(((100, S), (99, great), (0, ())), 0), ((99, great), (99 + count_tips(great), S), (0, ())))
+        self.assertEqual(led_past(((100, S), (99, great), (0, ())), 0),
+                         ((99, great), (99 + count_tips(great), S), (0, ())))
         self.assertEqual(led_past(((5, F), (0, S), (9, F), (2, S)), 1), ((5, F), (9, F), (0, S), (2, S)))
         self.assertEqual(led_past(((5, F), (9, S), (0, F), (2, S)), 1), ((5, F), (0, F), (10, S), (2, S)))
 
     def test_wrong_indices(self):
         for function in (can_swap, led_past):
             for row in ((), ((0, S),), ((0, S), (0, F)), ((0, ()),) * 12):
-                for wrong in [len(row) - 1, len(row), -1, 12, True, False] + [value for value in ODD_VALUES if value is not None]:
+                for wrong in [len(row) - 1, len(row), -1, 12, *ODD_VALUES]:
                     self.assertIs(type(raised_by(function, row, wrong)), InvalidNumber, (row, wrong))
                 for right in range(len(row) - 1):
                     self.assertIsNone(raised_by(function, row, right))

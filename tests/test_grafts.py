@@ -41,7 +41,8 @@ def plainly_grafted(bush, grafts):
 
 def rows_by_chance(seed, many, most_number=4, most_grafts=4, pieces=PIECES):
     chance = random.Random(seed)
-    return [tuple((chance.randrange(most_number + 1), chance.choice(pieces)) for _ in range(chance.randrange(most_grafts + 1)))
+    return [tuple((chance.randrange(most_number + 1), chance.choice(pieces))
+                  for _ in range(chance.randrange(most_grafts + 1)))
             for _ in range(many)]
 
 
@@ -55,14 +56,16 @@ def by_lot(bush, lot):
 class RowsTest(unittest.TestCase):
     def test_what_a_row_is(self):
         for right in ((), G, ((0, ()),), ((100, F),), ((0, ()),) * 12, ((0, wide(400)),), ((0, chain(60)),),
-                      ((0, wide(200)), (100, wide(200))), ((0, chain(30)), (0, chain(30)), (1, ())), ((0, ()),) * 11 + ((0, wide(389)),)):
+                      ((0, wide(200)), (100, wide(200))), ((0, chain(30)), (0, chain(30)), (1, ())),
+                      ((0, ()),) * 11 + ((0, wide(389)),)):
             self.assertIs(is_graft_row(right), True)
             self.assertIsNone(raised_by(need_of, right))
         for wrong in NO_GRAFTS + ODD_VALUES + [((0, ()),) * 11 + ((0, wide(390)),)]:
             self.assertIs(is_graft_row(wrong), False, wrong)
 
     def test_parts_and_heights_in_all(self):
-        self.assertEqual([is_graft_row(((0, wide(many)), (3, wide(401 - many)))) for many in (1, 150, 400)], [False] * 3)
+        self.assertEqual([is_graft_row(((0, wide(many)), (3, wide(401 - many)))) for many in (1, 150, 400)],
+                         [False] * 3)
         self.assertEqual([is_graft_row(((0, wide(many)), (3, wide(400 - many)))) for many in (1, 150, 399)], [True] * 3)
         self.assertEqual([is_graft_row(((0, chain(many)), (3, chain(61 - many)))) for many in (1, 7, 60)], [False] * 3)
         self.assertEqual([is_graft_row(((0, chain(many)), (3, chain(60 - many)))) for many in (0, 7, 60)], [True] * 3)
@@ -91,7 +94,8 @@ class GraftedTest(unittest.TestCase):
             for number, road in enumerate(roads):
                 found = roads_of(grafted(bush, ((number, W),)))
                 self.assertEqual(found[road], W)
-                self.assertEqual([other for other in roads if found.get(other) == ()], roads[:number] + roads[number + 1:])
+                self.assertEqual([other for other in roads if found.get(other) == ()],
+                                 roads[:number] + roads[number + 1:])
             self.assertIsNone(grafted(bush, ((len(roads), W),)))
 
     def test_no_graft_and_the_tip(self):

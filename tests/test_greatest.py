@@ -140,7 +140,8 @@ class GreatestTest(SoonCase):
 
     def test_counts_by_depths_and_words(self):
         most = 10 ** 18
-        for counts in ((0,) + (most,) * 60, (0,) * 25 + (most,) * 36, (0,) * 60 + (most,), (0, 1) * 30 + (1,), (most,) * 61):
+        for counts in ((0,) + (most,) * 60, (0,) * 25 + (most,) * 36, (0,) * 60 + (most,), (0, 1) * 30 + (1,),
+                       (most,) * 61):
             for function in (depthbushes.can_have_depths, depthbushes.fewest_by_depths, depthbushes.bush_by_depths):
                 self.assert_soon(function, counts)
             for times in range(1, 13):
@@ -149,7 +150,8 @@ class GreatestTest(SoonCase):
                 self.assert_soon(depthcuts.cut_by_depths, counts, other)
         low = "".join(CHANCE.choice("abc") for _ in range(57))
         for number in (1, 6, most):
-            words = tuple(sorted({low + "".join(CHANCE.choice("abcdefgh") for _ in range(3)): number for _ in range(200)}.items()))
+            words = tuple(sorted({low + "".join(CHANCE.choice("abcdefgh") for _ in range(3)): number
+                                  for _ in range(200)}.items()))
             far = tuple(sorted({"".join(CHANCE.choice("ab") for _ in range(60)): number for _ in range(200)}.items()))
             one = tuple((low[:size], number) for size in range(1, 58))
             for counts in (words, far, one):
@@ -164,9 +166,11 @@ class GreatestTest(SoonCase):
 
     def test_grafts(self):
         rows = [tuple((number, evenly(CHANCE, 33, "ab", most)) for number in numbers)
-                for most in (1, 2, 3, 6) for numbers in ((0,) * 12, (100,) * 12, tuple(range(89, 101)), tuple(range(11, -1, -1)))]
+                for most in (1, 2, 3, 6) for numbers in ((0,) * 12, (100,) * 12, tuple(range(89, 101)),
+                                                         tuple(range(11, -1, -1)))]
         rows = [row for row in rows if grafts.is_graft_row(row)]
-        rows += [((0, chain(5)),) * 12, ((100, wide(400)),), ((99, wide(399)), (100, ())), tuple((at, ()) for at in range(12))]
+        rows += [((0, chain(5)),) * 12, ((100, wide(400)),), ((99, wide(399)), (100, ())),
+                 tuple((at, ()) for at in range(12))]
         self.assertGreater(len(rows), 15)
         for row in rows:
             for bush in BIG_BUSHES:
@@ -212,7 +216,8 @@ def perfect(letters, depth):
 
 class GreatestMixedTest(SoonCase):
     def test_mixed_bushes(self):
-        for shape in (wide(400), perfect("a", 7), comb("a", 60), evenly(CHANCE, 400, "a", 3), perfect("a", 3), comb("a", 20)):
+        for shape in (wide(400), perfect("a", 7), comb("a", 60), evenly(CHANCE, 400, "a", 3), perfect("a", 3),
+                      comb("a", 20)):
             row = tuple(tuple(sorted_by_chance(shape) for _ in range(4)) for _ in range(12))
             mixed = sorted_by_chance(shape)
             self.assert_soon(mixedbushes.mixed_grown, 4, mixed, row)
@@ -239,7 +244,8 @@ class GreatestMixedTest(SoonCase):
             self.assert_soon(mixedalike.mixed_unlike, 4, 0, rows[0], 0, rows[1])
             self.assert_soon(mixedalike.grow_alike, 4, 0, rows[0], 0, rows[1])
         for one, two in ((60, 59), (60, 37), (53, 60)):
-            rows = [((chain(size, "a", 1), chain(size, "a", 2), chain(size, "a", 3), chain(size, "a", 0)),) * 12 for size in (one, two)]
+            rows = [((chain(size, "a", 1), chain(size, "a", 2), chain(size, "a", 3), chain(size, "a", 0)),) * 12
+                    for size in (one, two)]
             self.assert_soon(mixedalike.mixed_unlike, 4, 0, rows[0], 0, rows[1])
 
     def test_heard_roads(self):
@@ -248,12 +254,14 @@ class GreatestMixedTest(SoonCase):
                   (wide(40),) * 6, tuple(evenly(CHANCE, 40, "s", most) for most in range(1, 7)),
                   tuple(comb("s", height) for height in (19, 18, 17, 3, 2, 1))]
         for stock in stocks:
-            for heard in (line, line[:59] + (("t", 0),), tuple(("s", CHANCE.randrange(2)) for _ in range(60)), (("w", 0),) * 60):
+            for heard in (line, line[:59] + (("t", 0),), tuple(("s", CHANCE.randrange(2)) for _ in range(60)),
+                          (("w", 0),) * 60):
                 for function in (heardroads.first_fitting, heardroads.count_fitting, heardroads.heard_so_far):
                     self.assert_soon(function, stock, heard)
                 self.assert_soon(heardroads.row_fits, stock, (0,) * 60, heard)
                 others = [tuple(("s", CHANCE.randrange(2)) for _ in range(60)) for _ in range(4)]
-                for heards in ((heard,), (heard,) * 6, (line, line[:59], line[:58], line[:57], line[:56], heard), (line, heard, *others)):
+                for heards in ((heard,), (heard,) * 6, (line, line[:59], line[:58], line[:57], line[:56], heard),
+                               (line, heard, *others)):
                     self.assert_soon(heardroads.rows_fitting, stock, heards)
             self.assert_soon(doubleroads.each_road_tells, stock)
             self.assert_soon(doubleroads.double_road, stock)
@@ -265,20 +273,25 @@ class GreatestMixedTest(SoonCase):
                 return ("f", *[()] * index, way(index, left - 1)) if left else ()
             return ("f", *[way(index, many - 1) for index, many in enumerate(steps)])
         for steps, lengths in (
-            (((1, 1, 2, 1, 2, 1), (2, 1, 1, 1, 1, 2), (1, 1, 1, 3, 1, 1), (1, 1, 2, 2, 1, 2), (1, 3, 1, 1, 2, 1), (1, 1, 1, 1, 1, 3)),
+            (((1, 1, 2, 1, 2, 1), (2, 1, 1, 1, 1, 2), (1, 1, 1, 3, 1, 1), (1, 1, 2, 2, 1, 2), (1, 3, 1, 1, 2, 1),
+              (1, 1, 1, 1, 1, 3)),
              (52, 60, 60, 60, 60, 60)),
-            (((2, 2, 3, 2, 3, 1), (2, 1, 1, 1, 2, 1), (1, 1, 1, 1, 1, 1), (2, 2, 1, 2, 1, 1), (2, 2, 2, 1, 1, 3), (1, 1, 2, 2, 1, 2)),
+            (((2, 2, 3, 2, 3, 1), (2, 1, 1, 1, 2, 1), (1, 1, 1, 1, 1, 1), (2, 2, 1, 2, 1, 1), (2, 2, 2, 1, 1, 3),
+              (1, 1, 2, 2, 1, 2)),
              (60,) * 6),
-            (((1, 1, 1, 1, 1, 1), (1, 1, 1, 1, 2, 2), (2, 1, 1, 1, 2, 3), (1, 1, 1, 2, 1, 1), (3, 1, 1, 1, 1, 1), (1, 3, 3, 1, 1, 2)),
+            (((1, 1, 1, 1, 1, 1), (1, 1, 1, 1, 2, 2), (2, 1, 1, 1, 2, 3), (1, 1, 1, 2, 1, 1), (3, 1, 1, 1, 1, 1),
+              (1, 3, 3, 1, 1, 2)),
              (60, 60, 60, 54, 59, 60)),
         ):
             heards = tuple((("f", index),) * length for index, length in enumerate(lengths))
             self.assert_soon(heardroads.rows_fitting, tuple(map(led, steps)), heards)
 
     def test_double_roads_that_are_far(self):
-        stocks = [tuple(evenly(CHANCE, 40, "ab", most) for most in (2, 3, 4, 5, 6, 6)), tuple(evenly(CHANCE, 40, "a", 6) for _ in range(6)),
+        stocks = [tuple(evenly(CHANCE, 40, "ab", most) for most in (2, 3, 4, 5, 6, 6)),
+                  tuple(evenly(CHANCE, 40, "a", 6) for _ in range(6)),
                   tuple(chain(size) for size in (39, 38, 37, 36, 35, 34)),
-                  (chain(1, "a", chain(38, "b")), chain(1, "a", chain(37, "b")), chain(36, "b"), chain(39, "b"), chain(31, "b"), chain(29, "b")),
+                  (chain(1, "a", chain(38, "b")), chain(1, "a", chain(37, "b")), chain(36, "b"), chain(39, "b"),
+                   chain(31, "b"), chain(29, "b")),
                   tuple(letters("".join(CHANCE.choice("ab") for _ in range(39))) for _ in range(6))]
         for stock in stocks:
             self.assert_soon(doubleroads.each_road_tells, stock)
@@ -287,7 +300,8 @@ class GreatestMixedTest(SoonCase):
     def test_logs(self):
         for bush in BIG_BUSHES:
             half = (("year", wide(20)), ("rename", "w", "s"), ("mirror",), ("cut", 60))
-            for log in ((("mirror",),) * 20, (("cut", 60),) * 20, (("rename", "w", "d"), ("rename", "d", "w")) * 10, half * 5,
+            for log in ((("mirror",),) * 20, (("cut", 60),) * 20, (("rename", "w", "d"), ("rename", "d", "w")) * 10,
+                        half * 5,
                         (("year", ()),) * 20, (("year", bush), *[("cut", 60), ("mirror",)] * 9, ("year", ())),
                         (("year", wide(400)), ("cut", 59), ("mirror",)) * 6):
                 for function in (gardens.tended, gardens.tended_on, origins.spared_deeds):

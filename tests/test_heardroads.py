@@ -5,7 +5,8 @@ import random
 import unittest
 
 from tests.samples import (
-    D, F, NO_HEARDS, NO_STOCKS, ODD_VALUES, S, W, chain, doubled, plainly_grown_by, raised_by, roads_of, small_bushes, wide,
+    D, F, NO_HEARDS, NO_STOCKS, ODD_VALUES, S, W, chain, doubled, plainly_grown_by, raised_by, roads_of, small_bushes,
+    wide,
 )
 from tipwoods.errors import InvalidGrowths, InvalidHeard, InvalidStock, TooMany
 from tipwoods.heardroads import (
@@ -83,7 +84,8 @@ class FittingTest(unittest.TestCase):
             for heard in itertools.product(steps, repeat=3):
                 rows = found.get(heard, [])
                 self.assertEqual(count_fitting(stock, heard), len(rows))
-                self.assertEqual(first_fitting(stock, heard), min(rows, key=lambda row: (len(row), row)) if rows else None)
+                least = min(rows, key=lambda row: (len(row), row), default=None)
+                self.assertEqual(first_fitting(stock, heard), least)
                 far = max(size for size in range(4) if heard[:size] in found)
                 self.assertEqual(heard_so_far(stock, heard), far)
                 for many in range(4):
@@ -133,7 +135,8 @@ class FittingTest(unittest.TestCase):
             self.assertEqual([first_fitting(stock, ()), count_fitting(stock, ()), heard_so_far(stock, ())], [(), 1, 0])
             self.assertEqual([rows_fitting(stock, ((),)), rows_fitting(stock, ((),) * 6), row_fits(stock, (), ())],
                              [[()], [()], True])
-            self.assertEqual([rows_fitting(stock, ((), (("f", 0),))), row_fits(stock, (0,), ()), row_fits(stock, (), LINE)],
+            self.assertEqual([rows_fitting(stock, ((), (("f", 0),))), row_fits(stock, (0,), ()),
+                              row_fits(stock, (), LINE)],
                              [[], False, False])
         self.assertEqual([first_fitting((S,), LINE), count_fitting((S,), LINE), rows_fitting((S,), (LINE,))],
                          [(0,) * 60, 1, [(0,) * 60]])
@@ -141,7 +144,8 @@ class FittingTest(unittest.TestCase):
         self.assertEqual([row_fits((S, F), (0,) * 60, LINE), row_fits((S, F), (0,) * 59, LINE)], [True, False])
         self.assertEqual([first_fitting((S, chain(7), chain(13)), LINE), heard_so_far((chain(7), chain(13)), LINE)],
                          [(0, 1, 2, 2, 2, 2), 60])
-        self.assertEqual([heard_so_far((chain(7), chain(14)), LINE), first_fitting((chain(7), chain(14)), LINE)], [56, None])
+        self.assertEqual([heard_so_far((chain(7), chain(14)), LINE), first_fitting((chain(7), chain(14)), LINE)],
+                         [56, None])
         one, two = 1, 1
         for _ in range(59):
             one, two = two, one + two

@@ -15,8 +15,10 @@ LETTERS = string.ascii_lowercase
 
 
 # Some are deeper than any cut here, and unlike their mirrors; each letter stands at the root of some.
-PROBES = [(), F, S, ("f", S, ()), ("s", (), F), ("f", ("s", ("f", S, ()), ()), ("f", (), S)), chain(4, "f", ("s", F, ())),
-          ("s", ("s", ("s", ("s", S, ()), ()), ()), ()), ("f", W, ("f", ("f", W, S), ())), ("t", ("f", ()), ("u", ("s", S, ()), ())),
+PROBES = [(), F, S, ("f", S, ()), ("s", (), F), ("f", ("s", ("f", S, ()), ()), ("f", (), S)),
+          chain(4, "f", ("s", F, ())),
+          ("s", ("s", ("s", ("s", S, ()), ()), ()), ()), ("f", W, ("f", ("f", W, S), ())),
+          ("t", ("f", ()), ("u", ("s", S, ()), ())),
           *[(letter, (letter, (letter, ()), ()), (), ()) for letter in LETTERS]]
 
 
@@ -56,7 +58,8 @@ class FormTest(unittest.TestCase):
         ], [(2, True, (("f", "g"),)), True, False])
 
     def test_beside_the_plain_form(self):
-        for log in logs_by_chance(2, 1500, 7, tuple(DEEDS) + (("cut", 3), ("cut", 5), ("rename", "t", "f"), ("year", D))):
+        for log in logs_by_chance(2, 1500, 7,
+                                  tuple(DEEDS) + (("cut", 3), ("cut", 5), ("rename", "t", "f"), ("year", D))):
             expected = plain_form(log)
             error = raised_by(log_form, log)
             if error is None:

@@ -58,7 +58,8 @@ def calls_by_chance(seed, many, years=3, knots=2):
 
 class MixedTest(unittest.TestCase):
     def test_what_is_mixed(self):
-        for sorts, right in ((1, 0), (2, 1), (4, 3), (1, ("s", 0)), (4, ("f", 3, 2, 1, 0, 0, 1)), (2, B), (2, chain(60, "s", 1)),
+        for sorts, right in ((1, 0), (2, 1), (4, 3), (1, ("s", 0)), (4, ("f", 3, 2, 1, 0, 0, 1)), (2, B),
+                             (2, chain(60, "s", 1)),
                              (2, tips_as(wide(400), 1)), (3, ("a", 2, ("b", 1)))):
             self.assertIs(is_mixed(sorts, right), True)
         for sorts in (1, 2, 3, 4):
@@ -70,18 +71,21 @@ class MixedTest(unittest.TestCase):
             self.assertIs(is_mixed(2, wrong), False, wrong)
 
     def test_what_is_a_mixed_row(self):
-        for sorts, right in ((1, ()), (4, ()), (1, ((0,),)), (2, (C,)), (2, (C,) * 12), (4, ((0, 1, 2, 3),)), (1, ((("s", 0),),)),
+        for sorts, right in ((1, ()), (4, ()), (1, ((0,),)), (2, (C,)), (2, (C,) * 12), (4, ((0, 1, 2, 3),)),
+                             (1, ((("s", 0),),)),
                              (2, ((tips_as(wide(400), 1), tips_as(wide(400), 0)),) * 12)):
             self.assertIs(are_changes(sorts, right), True)
         for wrong in NO_CHANGES:
             self.assertIs(are_changes(2, (wrong,)), False, wrong)
             self.assertIs(are_changes(2, (C, wrong)), False, wrong)
-        for sorts, wrong in ((1, ((0, 0),)), (2, ((0,),)), (3, (C,)), (2, (C,) * 13), (2, C), (2, [C]), (2, None), (1, ((1,),))):
+        for sorts, wrong in ((1, ((0, 0),)), (2, ((0,),)), (3, (C,)), (2, (C,) * 13), (2, C), (2, [C]), (2, None),
+                             (1, ((1,),))):
             self.assertIs(are_changes(sorts, wrong), False)
 
     def test_wrong_numbers_of_sorts(self):
         for wrong in (0, 5, -1, True, False, None, "2", (2,), 10 ** 119):
-            for function, rest in ((is_mixed, (0,)), (are_changes, ((),)), (mixed_grown, (0, ())), (mixed_tips, (0, ())),
+            for function, rest in ((is_mixed, (0,)), (are_changes, ((),)), (mixed_grown, (0, ())),
+                                   (mixed_tips, (0, ())),
                                    (mixed_tip, (0, (), 0))):
                 self.assertIs(type(raised_by(function, wrong, *rest)), InvalidNumber)
 
@@ -114,13 +118,15 @@ class GrownTest(unittest.TestCase):
 
     def test_one_sort_is_as_bushes(self):
         for bush, growth in ((wide(20), wide(9)), (chain(30), chain(30)), ((), ("f", (), ())), (("f", (), ()), ())):
-            self.assertEqual(mixed_grown(1, tips_as(bush, 0), ((tips_as(growth, 0),),)), tips_as(grown(bush, growth), 0))
+            self.assertEqual(mixed_grown(1, tips_as(bush, 0), ((tips_as(growth, 0),),)),
+                             tips_as(grown(bush, growth), 0))
 
     def test_no_growth(self):
         for sorts, mixed in ((1, 0), (4, 3), (2, B), (2, ("f", 1, ("s", 0)))):
             tips = tips_with_roads(mixed)
             self.assertEqual(mixed_grown(sorts, mixed, ()), mixed)
-            self.assertEqual(mixed_tips(sorts, mixed, ()), tuple([sort for sort, _ in tips].count(at) for at in range(sorts)))
+            self.assertEqual(mixed_tips(sorts, mixed, ()),
+                             tuple([sort for sort, _ in tips].count(at) for at in range(sorts)))
             self.assertEqual([mixed_tip(sorts, mixed, (), number) for number in range(len(tips))], tips)
 
     def test_rows_that_can_not_be_drawn(self):
@@ -142,7 +148,8 @@ class GrownTest(unittest.TestCase):
         roads = []
         for at in reversed(range(13)):
             roads.append(tips_with_roads(great)[number // many ** at % many][1])
-        self.assertEqual(mixed_tip(1, great, ((great,),) * 12, number), (0, tuple(index for road in roads for index in road)))
+        self.assertEqual(mixed_tip(1, great, ((great,),) * 12, number),
+                         (0, tuple(index for road in roads for index in road)))
 
     def test_too_many_parts_and_too_deep(self):
         great = tips_as(wide(399), 0)

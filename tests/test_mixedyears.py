@@ -4,11 +4,10 @@ import itertools
 import random
 import unittest
 
-from tests.samples import raised_by
+from tests.samples import chain, raised_by, wide
 from tests.test_mixedbushes import (
     B, C, calls_by_chance, change_by_chance, mixed_by_chance, plainly_mixed, tips_as, tips_with_roads,
 )
-from tests.samples import chain, wide
 from tipwoods.errors import InvalidMixedRow, InvalidNumber
 from tipwoods.mixedalike import grow_alike
 from tipwoods.mixedyears import first_unlike, lots_of_years, tips_in_year, undoing_change
@@ -36,7 +35,8 @@ def far_counts(sorts, start, change, years, modulus):
             below = of_each(left - 1)
             return [[many % modulus for many in next_counts(sorts, row, change)] for row in below]
         below = of_each(left // 2)
-        return [[sum(row[sort] * below[sort][at] for sort in range(sorts)) % modulus for at in range(sorts)] for row in below]
+        return [[sum(row[sort] * below[sort][at] for sort in range(sorts)) % modulus for at in range(sorts)]
+                for row in below]
     rows = of_each(years)
     return tuple(sum(many * rows[sort][at] for sort, many in enumerate(start)) % modulus for at in range(sorts))
 
@@ -79,10 +79,8 @@ class LotsTest(unittest.TestCase):
         found, again = lots_of_years(4, 0, (1, 2, 3, ("f", 0, 1)))
         self.assertEqual(found[:6], [(0,), (1,), (2,), (3,), (0, 1), (1, 2)])
         self.assertEqual([found[-1], again, len(found)], [(0, 1, 2, 3), len(found) - 1, len(found)])
-        greatest = max(
-            len(lots_of_years(4, 0, change)[0])
-            for change in itertools.product([*range(4), *[("f", *pair) for pair in itertools.combinations(range(4), 2)]], repeat=4)
-        )
+        growths = [*range(4), *[("f", *pair) for pair in itertools.combinations(range(4), 2)]]
+        greatest = max(len(lots_of_years(4, 0, change)[0]) for change in itertools.product(growths, repeat=4))
         self.assertEqual(greatest, 11)
 
 
@@ -94,7 +92,8 @@ class FirstUnlikeTest(unittest.TestCase):
             change = change_by_chance(chance, sorts, 1)
             second = tuple(chance.choice((growth, growth, mixed_by_chance(chance, sorts, 1))) for growth in change)
             mate = mixed if chance.random() < 0.8 else mixed_by_chance(chance, sorts, 1)
-            years = [year for year in range(13) if not grow_alike(sorts, mixed, (change,) * year, mate, (second,) * year)]
+            years = [year for year in range(13)
+                     if not grow_alike(sorts, mixed, (change,) * year, mate, (second,) * year)]
             expected = years[0] if years else None
             self.assertEqual(first_unlike(sorts, mixed, change, mate, second), expected)
             self.assertEqual(first_unlike(sorts, mate, second, mixed, change), expected)
@@ -109,7 +108,8 @@ class FirstUnlikeTest(unittest.TestCase):
         self.assertEqual(first_unlike(4, 0, (1, 2, 3, 0), 0, (1, 2, 3, 1)), 4)
         self.assertIsNone(first_unlike(4, 0, (1, 2, 0, 3), 0, (1, 2, 0, 1)))
         self.assertEqual(first_unlike(1, 0, (0,), ("s", 0), (0,)), 0)
-        self.assertIsNone(first_unlike(1, chain(60, "s", 0), (tips_as(wide(400), 0),), chain(60, "s", 0), (tips_as(wide(400), 0),)))
+        self.assertIsNone(first_unlike(1, chain(60, "s", 0), (tips_as(wide(400), 0),), chain(60, "s", 0),
+                                       (tips_as(wide(400), 0),)))
         # They may be equal again later, or as bushes of one year: the first year tells.
         self.assertEqual(first_unlike(2, 0, (1, 1), 0, (0, 0)), 1)
 
@@ -122,7 +122,8 @@ class FarYearsTest(unittest.TestCase):
             tips = counts(sorts, mixed)
             for years in range(12):
                 for modulus in (1, 2, 10, 10 ** 9 - 1, 10 ** 9):
-                    self.assertEqual(tips_in_year(sorts, mixed, change, years, modulus), tuple(many % modulus for many in tips))
+                    self.assertEqual(tips_in_year(sorts, mixed, change, years, modulus),
+                                     tuple(many % modulus for many in tips))
                 tips = next_counts(sorts, tips, change)
 
     def test_far_years_beside_halves(self):
@@ -143,7 +144,8 @@ class FarYearsTest(unittest.TestCase):
         self.assertEqual(tips_in_year(4, 0, (1, 2, 3, 0), 10 ** 30, 10 ** 9), (1, 0, 0, 0))
         great = tips_as(wide(400), 0)
         many = len(tips_with_roads(great))
-        self.assertEqual(tips_in_year(1, great, (great,), 10 ** 30, 10 ** 9), (many * pow(many, 10 ** 30, 10 ** 9) % 10 ** 9,))
+        self.assertEqual(tips_in_year(1, great, (great,), 10 ** 30, 10 ** 9),
+                         (many * pow(many, 10 ** 30, 10 ** 9) % 10 ** 9,))
 
     def test_limits(self):
         for wrong in (-1, 10 ** 30 + 1, True, None, "1", 10 ** 119):
@@ -169,7 +171,8 @@ class UndoingTest(unittest.TestCase):
                 found = undoing_change(sorts, change)
                 self.assertIs(found is None, len(set(change)) < sorts)
                 if found is not None:
-                    self.assertEqual([plainly_mixed(sort, (change, found)) for sort in range(sorts)], list(range(sorts)))
+                    self.assertEqual([plainly_mixed(sort, (change, found)) for sort in range(sorts)],
+                                     list(range(sorts)))
                     self.assertEqual(undoing_change(sorts, found), change)
 
     def test_edges(self):

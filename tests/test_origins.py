@@ -117,7 +117,8 @@ class SparedTest(unittest.TestCase):
         self.assertTrue({0, 1, 2, 3, 4} <= told)
 
     def test_edges(self):
-        self.assertEqual([spared_deeds(F, ()), spared_deeds((), (("year", ()),)), spared_deeds((), (("year", S),))], [[], [0], []])
+        self.assertEqual([spared_deeds(F, ()), spared_deeds((), (("year", ()),)), spared_deeds((), (("year", S),))],
+                         [[], [0], []])
         # Each by itself: without both, it would not be the same.
         self.assertEqual(spared_deeds(W, (("cut", 1), ("cut", 1))), [0, 1])
         self.assertEqual(spared_deeds(F, (("mirror",),) * 20), list(range(20)))
@@ -131,7 +132,8 @@ class SparedTest(unittest.TestCase):
         self.assertEqual(raised_by(spared_deeds, chain(60), log).limit, 60)
         self.assertIsNone(raised_by(spared_deeds, chain(59), log))
         # The log itself comes first, then the deeds in their order.
-        self.assertEqual(raised_by(spared_deeds, chain(60), (("year", S), ("cut", 0), ("year", wide(400)), ("year", F))).limit, 60)
+        self.assertEqual(raised_by(spared_deeds, chain(60), (("year", S), ("cut", 0), ("year", wide(400)),
+                                                             ("year", F))).limit, 60)
         both = (("cut", 1), ("year", chain(59)), ("cut", 2), ("year", wide(390)))
         self.assertIsNone(raised_by(spared_deeds, S, both[:1]))
         self.assertEqual(raised_by(spared_deeds, chain(3), both).limit, 60)

@@ -1,4 +1,4 @@
-"""[75]: tops of bushes, what is common to two and what joins them, and rows of single knots; with [3], [28], [29], [32]."""
+"""[75]: tops of bushes, what is common to two and what joins them, rows of single knots; with [3], [28], [29], [32]."""
 
 import functools
 import itertools
@@ -44,7 +44,8 @@ def knot_rows(bush, target):
 class TopsTest(unittest.TestCase):
     def test_examples(self):
         self.assertEqual([
-            count_knot_rows(("v", V, V)), count_tops(("v", V, ())), is_top(V, ("v", V, ())), lot_between(V, ("v", V, ())),
+            count_knot_rows(("v", V, V)), count_tops(("v", V, ())), is_top(V, ("v", V, ())),
+            lot_between(V, ("v", V, ())),
             common_top(("v", V, ()), ("v", (), V)),
         ], [2, 3, True, ((0, ("v", (), ())),), ("v", (), ())])
         self.assertEqual([
@@ -137,7 +138,8 @@ class TopsTest(unittest.TestCase):
         self.assertEqual([both == ("f", wide(390), wide(390)), is_bush(both)], [True, False])
 
     def test_great_bushes(self):
-        self.assertEqual([is_top(chain(59), chain(60)), is_top(chain(60), chain(59)), lot_between(chain(59), chain(60))],
+        self.assertEqual([is_top(chain(59), chain(60)), is_top(chain(60), chain(59)),
+                          lot_between(chain(59), chain(60))],
                          [True, False, ((0, S),)])
         self.assertEqual([count_tops(chain(60)), common_top(chain(60), chain(59)), joined_tops(chain(59), chain(60))],
                          [61, chain(59), chain(60)])
@@ -151,7 +153,8 @@ class TopsTest(unittest.TestCase):
 
 class KnotRowsTest(unittest.TestCase):
     def test_beside_all_rows_told_one_by_one(self):
-        for bush in SMALL + [W, V, ("v", V, V), ("f", F, S), ("f", W, S), doubled(2), ("v", V, V, V), ("s", ("v", V, ("s", V)))]:
+        for bush in SMALL + [W, V, ("v", V, V), ("f", F, S), ("f", W, S), doubled(2), ("v", V, V, V),
+                             ("s", ("v", V, ("s", V)))]:
             self.assertEqual(count_knot_rows(bush), knot_rows((), bush), bush)
 
     def test_edges(self):

@@ -49,7 +49,8 @@ class WordsTest(unittest.TestCase):
             self.assertIs(can_have_words(words), True)
             bush = bush_by_words(words)
             self.assertEqual((words_of((bush,)), is_bush(bush)), (words, True))
-        words = [(("a", 1),), (("a", 7),), (("a", 1), ("b", 1)), (("", 1), ("a", 1)), (("aa", 6), ("ab", 6)), (("", 2),),
+        words = [(("a", 1),), (("a", 7),), (("a", 1), ("b", 1)), (("", 1), ("a", 1)), (("aa", 6), ("ab", 6)),
+                 (("", 2),),
                  (("a", 5), ("ab", 7)), (("a", 6), ("ab", 1)), (("aa", 36),), (("aa", 37),), (("ab", 18), ("aba", 1))]
         for counts in words:
             knots = fewest_by_words(counts)
@@ -74,13 +75,15 @@ class WordsTest(unittest.TestCase):
     def test_words_of_one_letter_are_depths(self):
         chance = random.Random(2)
         for _ in range(300):
-            counts = tuple(chance.choice((0, 0, 1, 5, 6, 7, 30)) for _ in range(chance.randrange(5))) + (chance.choice((1, 6, 20)),)
+            counts = tuple(chance.choice((0, 0, 1, 5, 6, 7, 30))
+                           for _ in range(chance.randrange(5))) + (chance.choice((1, 6, 20)),)
             words = tuple(("q" * depth, many) for depth, many in enumerate(counts) if many)
             self.assertIs(can_have_words(words), can_have_depths(counts))
             self.assertEqual(fewest_by_words(words), fewest_by_depths(counts))
 
     def test_words_of_no_letter(self):
-        self.assertEqual([can_have_words((("", 1),)), fewest_by_words((("", 1),)), bush_by_words((("", 1),))], [True, 0, ()])
+        self.assertEqual([can_have_words((("", 1),)), fewest_by_words((("", 1),)), bush_by_words((("", 1),))],
+                         [True, 0, ()])
         for words in ((("", 2),), (("", 10 ** 18),), (("", 1), ("a", 1)), (("", 1), ("a" * 60, 1))):
             self.assertEqual([can_have_words(words), fewest_by_words(words), bush_by_words(words)], [False, None, None])
 
@@ -112,16 +115,20 @@ class WordsTest(unittest.TestCase):
             else:
                 error = raised_by(bush_by_words, counts)
                 self.assertEqual((type(error), error.limit), (TooMany, 400))
-        self.assertEqual({fewest_by_words((("a" + long, tips),)) + tips for tips in range(270, 300)} & {400, 401}, {400, 401})
+        self.assertEqual({fewest_by_words((("a" + long, tips),)) + tips for tips in range(270, 300)} & {400, 401},
+                         {400, 401})
 
     def test_200_words(self):
-        words = tuple(sorted(("a" + first + second, 1) for first in "bcdefgh" for second in "abcdefghijklmnopqrstuvwxyz"))
+        words = tuple(sorted(("a" + first + second, 1) for first in "bcdefgh"
+                             for second in "abcdefghijklmnopqrstuvwxyz"))
         self.assertEqual(len(words), 182)
         # 26 parts below each of seven letters need five knots each, 35 in all, and these six at the root.
         self.assertIs(can_have_words(words), False)
-        words = tuple(sorted(("aa" + first + second, 1) for first in "bcdefg" for second in "abcdefghijklmnopqrstuvwxyz"))
+        words = tuple(sorted(("aa" + first + second, 1) for first in "bcdefg"
+                             for second in "abcdefghijklmnopqrstuvwxyz"))
         self.assertIs(can_have_words(words), True)
-        words = tuple(sorted(("aaa" + first + second, 1) for first in "bcdefghi" for second in "klmnopqrstuvwxyzabcdefghi"))
+        words = tuple(sorted(("aaa" + first + second, 1) for first in "bcdefghi"
+                             for second in "klmnopqrstuvwxyzabcdefghi"))
         self.assertEqual((len(words), can_have_words(words)), (200, True))
         self.assertEqual(words_of((bush_by_words(words[:150]),)), words[:150])
         self.assertEqual(fewest_by_words(words), parts_and_knots(words)[1])
